@@ -1,0 +1,1 @@
+"""Kitwright: kits in versions that want and bar one another."""

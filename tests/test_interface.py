@@ -1,0 +1,296 @@
+"""The interface: modules in their order, names, parameters; and promises [3], [4], [5] and [9] for all parameters."""
+
+import ast
+import importlib
+import inspect
+import pathlib
+import unittest
+
+import kitwright
+import kitwright.errors
+from kitwright.errors import NotRange
+from kitwright.ranges import Range, is_kit
+from kitwright.registries import Registry
+from tests.samples import ALL, APP, EMPTY, LOW, V1, V2, Case, any_values, kits_dict, strict
+
+ROOT = pathlib.Path(__file__).resolve().parent.parent
+MODULES = ["errors", "ranges", "rangetexts", "registries", "sets", "clauses", "refuting", "best", "quarrels"]
+
+# Each parameter with the error that any wrong value in its place raises; none behind a name: any value may stand there.
+SPEC = """
+ranges is_kit value
+ranges is_version value
+ranges next_version version:BadVersion
+ranges is_within one:NotRange other:NotRange
+ranges first_in ranged:NotRange version:BadVersion
+ranges first_unlike one:NotRange other:NotRange
+ranges last_in ranged:NotRange
+ranges parting inside:BadVersions outside:BadVersions
+ranges widest_parting inside:BadVersions outside:BadVersions
+ranges alternation inside:BadVersions outside:BadVersions
+ranges is_alternation inside:BadVersions outside:BadVersions value
+rangetexts read_range text:BadText
+rangetexts range_text ranged:NotRange
+rangetexts terms_needed ranged:NotRange
+rangetexts version_text version:BadVersion
+rangetexts read_version text:BadText
+registries is_manifest value
+registries renamed registry:NotRegistry names:BadNames
+registries together one:NotRegistry other:NotRegistry
+sets states_of registry:NotRegistry kit:NoKit
+sets is_set registry:NotRegistry value
+sets line_of registry:NotRegistry chosen:BadSet
+sets set_of registry:NotRegistry line:BadLine
+sets faults registry:NotRegistry roots:BadRoots chosen:BadSet
+sets is_sound registry:NotRegistry roots:BadRoots chosen:BadSet
+sets reached registry:NotRegistry roots:BadRoots chosen:BadSet
+sets chain_to registry:NotRegistry roots:BadRoots chosen:BadSet kit:NoKit
+sets is_chain registry:NotRegistry roots:BadRoots chosen:BadSet value
+sets trimmed registry:NotRegistry roots:BadRoots chosen:BadSet
+sets sound_sets registry:NotRegistry roots:BadRoots
+sets installs registry:NotRegistry roots:BadRoots
+sets how_many registry:NotRegistry roots:BadRoots
+sets set_at registry:NotRegistry roots:BadRoots number:BadNumber
+sets number_of registry:NotRegistry roots:BadRoots chosen:BadSet
+sets tally registry:NotRegistry roots:BadRoots
+sets closed_sets registry:NotRegistry
+sets same_sets one:NotRegistry other:NotRegistry
+sets parting_set one:NotRegistry other:NotRegistry
+sets dead_versions registry:NotRegistry
+sets beside registry:NotRegistry kit:NoKit version:NoVersion
+sets dead_paper registry:NotRegistry kit:NoKit version:NoVersion
+sets is_dead_paper registry:NotRegistry kit:NoKit version:NoVersion value
+sets without_entry registry:NotRegistry entry:NoEntry
+sets needless_entries registry:NotRegistry
+sets spare_lots registry:NotRegistry
+sets gained registry:NotRegistry roots:BadRoots kit:BadKit version:BadVersion manifest:BadManifest
+sets lost registry:NotRegistry roots:BadRoots kit:NoKit version:NoVersion
+clauses is_clause registry:NotRegistry value
+clauses keeps registry:NotRegistry chosen:BadSet clause:BadClause
+clauses covers registry:NotRegistry one:BadClause other:BadClause
+clauses given_clauses registry:NotRegistry roots:BadRoots
+clauses joined registry:NotRegistry one:BadClause other:BadClause kit:NoKit
+refuting row_clauses registry:NotRegistry clauses:BadClauses value:BadRows
+refuting derivation registry:NotRegistry clauses:BadClauses clause:BadClause
+refuting is_derivation registry:NotRegistry clauses:BadClauses clause:BadClause value
+refuting refutation registry:NotRegistry clauses:BadClauses
+refuting is_refutation registry:NotRegistry clauses:BadClauses value
+refuting stray registry:NotRegistry clauses:BadClauses clause:BadClause
+refuting strongest registry:NotRegistry clauses:BadClauses
+refuting needless registry:NotRegistry clauses:BadClauses
+best is_better registry:NotRegistry ranked:BadRanked one:BadSet other:BadSet
+best best_install registry:NotRegistry roots:BadRoots ranked:BadRanked
+best sound_at registry:NotRegistry roots:BadRoots ranked:BadRanked number:BadNumber
+best count_better registry:NotRegistry roots:BadRoots ranked:BadRanked chosen:BadSet
+best mark registry:NotRegistry ranked:BadRanked chosen:BadSet kit:NoKit
+best best_paper registry:NotRegistry roots:BadRoots ranked:BadRanked
+best is_best_paper registry:NotRegistry roots:BadRoots ranked:BadRanked value
+best fates registry:NotRegistry roots:BadRoots
+best is_fates registry:NotRegistry roots:BadRoots value
+best sure_states registry:NotRegistry roots:BadRoots
+best beats registry:NotRegistry roots:BadRoots chosen:BadSet
+best unbeaten registry:NotRegistry roots:BadRoots
+best best_for registry:NotRegistry roots:BadRoots
+quarrels met_by registry:NotRegistry demands:BadDemands chosen:BadSet
+quarrels demand_clauses registry:NotRegistry demands:BadDemands
+quarrels demands_of roots:BadRoots
+quarrels quarrels registry:NotRegistry demands:BadDemands
+quarrels gifts registry:NotRegistry demands:BadDemands
+quarrels meeting_lots lots:BadLots many:BadNumber
+"""
+# Where the errors do not come from left to right.
+TURNED = {"meeting_lots": ["many", "lots"]}
+METHODS = {"Range": {"stretches", "__contains__", "__and__", "__or__", "__sub__", "__invert__", "__eq__"},
+           "Registry": {"kits", "named", "versions", "manifest", "published", "withdrawn", "__eq__"}}
+
+
+def rows():
+    """For each line of SPEC: the module, the function, and the dict from its parameters to their errors or None."""
+    for line in SPEC.strip().split("\n"):
+        module, name, *told = line.split(" ")
+        pairs = [(word + ":").split(":")[:2] for word in told]
+        errors = {word: getattr(kitwright.errors, error) if error else None for word, error in pairs}
+        yield module, getattr(importlib.import_module("kitwright." + module), name), errors
+
+
+def good_values(function):
+    """Right values for all parameters, new ones at each call."""
+    ahead = (("app", (V1,)), ("lib", (V1, V2)))
+    found = {
+        "registry": Registry(APP), "roots": {"app": LOW}, "chosen": {"lib": V1, "app": V1}, "kit": "app", "version": V1,
+        "ranked": ["lib", "app"], "clause": ahead, "clauses": [ahead, (("lib", ((),)),)], "value": None, "number": 0,
+        "line": (V1, ()), "entry": ("lib", V2, "clash", "app"), "manifest": ({"lib": LOW}, {}, ("lib",)), "many": 3,
+        "lots": [(0, 1), (1, 2)], "demands": [("want", "app", LOW), ("bar", "lib", LOW)], "text": "1.2.3",
+        "names": {"app": "x", "lib": "y"}, "inside": [V1], "outside": [V2], "ranged": LOW, "one": LOW, "other": ALL}
+    if function.__name__ in ("together", "same_sets", "parting_set"):
+        found.update({"one": Registry(APP), "other": Registry(APP)})
+    if function.__name__ == "together":
+        found["other"] = Registry({"new": {V1: EMPTY}})
+    if function.__name__ in ("covers", "joined"):
+        found.update({"one": ahead, "other": (("app", (V1, V2)),)})
+    if function.__name__ == "is_better":
+        found.update({"one": {"lib": V1}, "other": {"lib": V2}})
+    if function.__name__ == "gained":
+        found["version"] = (9, 0, 0)
+    if function.__name__ == "row_clauses":
+        found["value"] = [("given", 0), ("given", 1), ("joined", 0, 1, "lib")]
+    return {name: found[name] for name in inspect.signature(function).parameters}
+
+
+def is_right(error, value):
+    """Whether a value of any_values is right in the place of a parameter with this error, in good_values."""
+    name, told = error.__name__, repr(value)
+    if name in ("NotRegistry", "NotRange"):
+        return isinstance(value, Registry if name == "NotRegistry" else Range)
+    if name == "BadRoots":
+        return isinstance(value, dict) and all(is_kit(kit) and isinstance(one, Range) for kit, one in value.items())
+    if name in ("BadVersion", "NoVersion"):
+        return told == "(1, 0, 0)"
+    if name == "BadKit":
+        return is_kit(value)
+    if name == "BadVersions":
+        return isinstance(value, (list, tuple)) and all(repr(one) == "(1, 0, 0)" or one == V2 for one in value)
+    if name in ("BadClauses", "BadLots"):
+        return isinstance(value, (list, tuple)) and all(isinstance(one, tuple) and one in ((), (0,)) for one in value)
+    return told in {
+        "BadText": ["'1.2.3'", "'none'", "'*'"], "BadSet": ["{}"], "BadClause": ["()"], "BadDemands": ["[]", "()"],
+        "BadNumber": ["0", "1", "3", str(10 ** 99)], "BadLine": ["((), ())", "((1, 0, 0), (2, 0, 0))"]}.get(name, [])
+
+
+class Interface(Case):
+    def test_modules(self):
+        defined = [node for node in ast.parse(inspect.getsource(kitwright)).body
+                   if not (isinstance(node, ast.Expr) and isinstance(node.value, ast.Constant))]
+        self.assertEqual(defined, [])
+        for name in MODULES:
+            importlib.import_module("kitwright." + name)
+
+    def test_order_of_imports(self):
+        for place, name in enumerate(MODULES):
+            seen, waiting = set(), [name]
+            while waiting:
+                module = waiting.pop()
+                tree = ast.parse((ROOT / "kitwright" / (module + ".py")).read_text())
+                for node in ast.walk(tree):
+                    if isinstance(node, ast.ImportFrom) and node.module.startswith("kitwright."):
+                        other = node.module.split(".")[1]
+                        if other not in seen:
+                            seen.add(other)
+                            waiting.append(other)
+            self.assertTrue(seen & set(MODULES) <= set(MODULES[:place]), (name, seen))
+
+    def test_functions(self):
+        for module, function, errors in rows():
+            self.assertEqual(function.__module__, "kitwright." + module)
+            self.assertTrue(inspect.isfunction(function))
+            parameters = inspect.signature(function).parameters.values()
+            self.assertEqual([one.name for one in parameters], list(errors), function)
+            self.assertTrue(all(one.kind == one.POSITIONAL_OR_KEYWORD and one.default is one.empty
+                                for one in parameters))
+
+    def test_classes(self):
+        for owner, names in METHODS.items():
+            made = Range if owner == "Range" else Registry
+            self.assertTrue(names <= set(vars(made)), owner)
+            self.assertEqual(made.__module__, "kitwright.ranges" if made is Range else "kitwright.registries")
+        self.assertEqual(list(inspect.signature(Range).parameters), ["stretches"])
+        self.assertEqual(inspect.signature(Range).parameters["stretches"].default, ())
+        self.assertEqual(list(inspect.signature(Registry).parameters), ["kits"])
+        for name, told in [("versions", ["kit"]), ("manifest", ["kit", "version"]),
+                           ("published", ["kit", "version", "manifest"]), ("withdrawn", ["kit", "version"])]:
+            self.assertEqual(list(inspect.signature(getattr(Registry, name)).parameters), ["self", *told])
+
+
+class AllParameters(Case):
+    def test_right_values(self):
+        for _, function, _ in rows():
+            good = good_values(function)
+            before = strict(good)
+            by_name, by_place = function(**good), function(*good.values())
+            self.assertEqual(strict(by_name), strict(by_place), function)
+            self.assertEqual(strict(good), before)
+            self.answers_anew(function, *good.values())
+
+    def test_any_value(self):
+        for _, function, errors in rows():
+            for name, error in errors.items():
+                for value in any_values():
+                    if error is None:
+                        function(**{**good_values(function), name: value})
+                    elif error.__name__ != "BadRows" and not is_right(error, value):
+                        told = {word: value for word in ("kit", "version") if word == name}
+                        told = told if error.__name__ in ("NoKit", "NoVersion") else {}
+                        wrong = {**good_values(function), name: value}
+                        self.refuses(error, function, *wrong.values(), **told)
+
+    def test_order_of_errors(self):
+        for _, function, errors in rows():
+            order = TURNED.get(function.__name__, [name for name, error in errors.items() if error])
+            for place, name in enumerate(order):
+                good = good_values(function)
+                for other in order[place + 1:]:
+                    self.refuses(errors[name], function, *{**good, name: None, other: None}.values())
+                wrong = {**good, **{other: "?" for other in order[place:]}}
+                self.refuses(errors[name], function, *wrong.values())
+
+    def test_tuples_for_lists(self):
+        for _, function, _ in rows():
+            good = good_values(function)
+            lists = {name: tuple(value) for name, value in good.items() if isinstance(value, list)}
+            if lists:
+                self.assertEqual(strict(function(**{**good, **lists})), strict(function(**good)), function)
+
+    def test_orders_of_keys(self):
+        for _, function, _ in rows():
+            good = good_values(function)
+            turned = {name: dict(reversed(value.items())) for name, value in good.items() if isinstance(value, dict)}
+            self.assertEqual(strict(function(**{**good, **turned})), strict(function(**good)), function)
+
+    def test_ranked(self):
+        registry = Registry(APP)
+        for _, function, errors in rows():
+            if "ranked" in errors:
+                for value in [["app"], ["app", "app"], ["app", "lib", "lib"], ["app", "lib", "zz"], ["app", "zz"], [],
+                              {"app": 1, "lib": 1}, "app", ["app", None], ["app", ["lib"]], ["lib", "app", 1], None]:
+                    wrong = {**good_values(function), "registry": registry, "ranked": value}
+                    self.refuses(errors["ranked"], function, *wrong.values())
+
+    def test_roots(self):
+        for _, function, errors in rows():
+            if "roots" in errors:
+                five = {kit: ALL for kit in ("app", "b", "c", "d", "e")}
+                for value in [five, {"APP": ALL}, {"app": None}, {"app": [(V1, V2)]}, {1: ALL}, [("app", ALL)], {"": ALL},
+                              {"app": ALL, None: ALL}]:
+                    self.refuses(errors["roots"], function, *{**good_values(function), "roots": value}.values())
+
+    def test_sets(self):
+        for _, function, errors in rows():
+            for name, error in errors.items():
+                if error is kitwright.errors.BadSet:
+                    for value in [{"app": (True, 0, 0)}, {"app": ()}, {"zz": V1}, {"app": (9, 0, 0)}, {"app": [1, 0, 0]},
+                                  {"app": V1, 1: V1}, [("app", V1)], {"lib": V1, "app": None}]:
+                        self.refuses(error, function, *{**good_values(function), name: value}.values())
+
+
+class Copies(Case):
+    def test_registry(self):
+        ranged = Range([(V1, V2)])
+        kits = {"a": {V1: ({"b": ranged}, {"c": ranged}, ("d",))}}
+        registry = Registry(kits)
+        told = kits_dict(registry)
+        ranged.__init__([])
+        kits["a"][V1][0]["x"] = ALL
+        kits["a"][V2] = EMPTY
+        kits["e"] = {}
+        self.assertEqual(strict(kits_dict(registry)), strict(
+            {"a": {V1: ({"b": Range([(V1, V2)])}, {"c": Range([(V1, V2)])}, ("d",))}}))
+        self.assertEqual(strict(kits_dict(registry)), strict(told))
+
+    def test_operators_by_any_value(self):
+        for value in any_values():
+            if not isinstance(value, Range):
+                self.refuses(NotRange, lambda: LOW & value)
+
+
+if __name__ == "__main__":
+    unittest.main()
