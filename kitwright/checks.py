@@ -14,7 +14,7 @@ def check_roots(roots):
 
 def is_kit_of(registry, value):
     """Whether any value is a kit of the registry."""
-    return is_kit(value) and value in registry.kits
+    return value in registry.kits
 
 
 def is_version_of(registry, kit, value):
@@ -24,7 +24,7 @@ def is_version_of(registry, kit, value):
 
 def is_state_of(registry, kit, value):
     """Whether any value is a state of a kit of the registry."""
-    return (isinstance(value, tuple) and value == ()) or is_version_of(registry, kit, value)
+    return value == () or is_version_of(registry, kit, value)
 
 
 def is_set_of(registry, value):

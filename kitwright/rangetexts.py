@@ -131,9 +131,10 @@ def single_term(low, high):
     if low == ZERO and high is None:
         return "*"
     for sign in WRITTEN:
+        # A stretch without an end is found at `>=`, so that at `<` there is one.
         told = high if sign == "<" else low
         for many in (1, 2, 3):
-            if told is not None and signed_span(sign, told[:many]) == (low, high):
+            if signed_span(sign, told[:many]) == (low, high):
                 return sign + part_text(told[:many])
     return None
 

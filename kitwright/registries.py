@@ -123,14 +123,18 @@ class Registry:
             raise TooMany(MOST_VERSIONS)
         if kit not in self._kits and len(self._kits) == MOST_KITS:
             raise TooMany(MOST_KITS)
-        return Registry({**self._kits, kit: {**there, version: manifest}})
+        kits = kits_of(self)
+        if kit not in kits:
+            kits[kit] = {}
+        kits[kit][version] = manifest
+        return Registry(kits)
 
     def withdrawn(self, kit, version):
         """The registry without a version, and without its kit if that was the only one."""
         versions = self.versions(kit)
         if not is_version(version) or version not in versions:
             raise NoVersion(version)
-        kits = {name: {known: self._kits[name][known] for known in self._kits[name]} for name in self._kits}
+        kits = kits_of(self)
         del kits[kit][version]
         if not kits[kit]:
             del kits[kit]

@@ -80,8 +80,7 @@ def check_sound(registry, roots, chosen):
 
 def wanted_in(registry, chosen, kit):
     """The ascending list of the kits of a set that the manifest of one of them wants."""
-    wants = registry.manifest(kit, chosen[kit])[0]
-    return [other for other in sorted(wants) if other in chosen]
+    return [other for other in registry.manifest(kit, chosen[kit])[0] if other in chosen]
 
 
 def least_chains(registry, roots, chosen):

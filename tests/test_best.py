@@ -149,6 +149,8 @@ class Promise33(Case):
             yield shown, chosen
             yield chosen, {other: rows for other, rows in shown.items() if other != kit}
             yield chosen, {**shown, kit: []}
+            yield chosen, {"zz" if other == kit else other: rows for other, rows in shown.items()}
+            yield chosen, {1 if other == kit else other: rows for other, rows in shown.items()}
             yield chosen, {**shown, kit: shown[kit] + [("given", -1)]}
             yield chosen, {**shown, kit: None}
             yield {**chosen, kit: (True,) + chosen[kit][1:]}, shown
@@ -221,7 +223,7 @@ class Promise34(Case):
             wrong = [("some", chosen) for chosen in others[:2]] + [
                 ("never", []), ("never", None), ("some", None), None, ("some",), [word, shown], (word, shown, 1),
                 ("some", {"zz": V1}), ("some", {**shown, "zz": V1} if word == "some" else {}), ("never", {}),
-                ("never" if word == "some" else "some", shown), (shown, word)]
+                ("never" if word == "some" else "some", shown), (shown, word), ("others", shown), (1, shown)]
             for fate in wrong:
                 if fate != ("some", {}) or {} not in those:
                     self.assertIs(is_fates(registry, roots, {**found, pair: fate}), False, repr(fate))

@@ -176,6 +176,10 @@ class Promise11(Case):
                 self.refuses(NotRange, lambda: value | ALL)
                 self.refuses(NotRange, lambda: value - ALL)
 
+    def test_repr(self):
+        self.assertEqual(repr(Range([(V2, None), (V1, (1, 2, 3))])),
+                         "Range([((1, 0, 0), (1, 2, 3)), ((2, 0, 0), None)])")
+
     def test_no_iteration(self):
         for call in (iter, list, tuple, sorted, dict):
             with self.assertRaises(TypeError):

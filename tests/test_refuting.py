@@ -75,6 +75,8 @@ class Promise29(Case):
                 shown += 1
                 told = judged(kits, clauses, rows)
                 self.same(row_clauses(registry, clauses, rows), told)
+                used = {at for row in rows if row[0] == "joined" for at in row[1:3]}
+                self.assertEqual(used, set(range(len(rows) - 1)))
                 barred = [chosen for chosen in plain_sets(kits) if plain_barred(clause, chosen)]
                 self.assertTrue(all(plain_barred(told[-1], chosen) for chosen in barred))
                 self.assertTrue(all(follows(kits, clauses, one) for one in told))
@@ -140,7 +142,7 @@ class Promise29(Case):
         for row in [("given", 3), ("given", -1), ("given", True), ("given",), ("given", 0, 0), ["given", 0], ("Given", 0),
                     ("joined", 0, 1), ["joined", 0, 1, "lib"], ("joined", 0, 4, "lib"), ("joined", 4, 0, "lib"),
                     ("joined", -1, 0, "lib"), ("joined", 0, False, "lib"), ("joined", True, 0, "lib"),
-                    ("joined", 0, 1, "app", 0), ("joined", 0, 1, "zz"), ("joined", 2, 0, "lib"), ("joined", 0, 2, "lib"),
+                    ("joined", 0, 1, "app", 0), ("join", 0, 1, "lib"), ("given", 0, 1, "lib"), ("joined", 0), ("joined", 0, 1, "zz"), ("joined", 2, 0, "lib"), ("joined", 0, 2, "lib"),
                     ("joined", 0, 1, "app"), ("joined", 0, 1, 1), ("joined", "0", 1, "lib"), ("given", "0"),
                     ("joined", 0, 1, ["lib"]), ("joined", None, None, None), (0, "given"), ("given", 10 ** 99)]:
             if row == ("joined", 0, 1, "app"):

@@ -159,6 +159,9 @@ class Making(Case):
             self.assertIs(one == value, False)
         self.assertIs(one == APP, False)
 
+    def test_repr(self):
+        self.assertEqual(eval(repr(Registry(APP))), Registry(APP))
+
     def test_no_iteration(self):
         for call in (iter, list, tuple, dict, sorted):
             with self.assertRaises(TypeError):
