@@ -3,7 +3,7 @@
 from itertools import permutations
 
 from kitwright.checks import (
-    check_kit_in, check_number, check_ranked, check_roots, check_set, is_kit_of, is_set_of, is_state_of)
+    check_kit_in, check_number, check_ranked, check_roots, check_set, is_set_of, is_state_pair)
 from kitwright.clauses import given_clauses
 from kitwright.derivers import derived
 from kitwright.errors import NoneSound
@@ -147,15 +147,10 @@ def is_fate(registry, roots, given, pair, value):
     return value[1].get(kit, ()) == state and is_sound(registry, roots, value[1])
 
 
-def is_pair_of(registry, value):
-    """Whether any value is a pair of a kit of the registry and a state of it."""
-    return is_tuple_of(value, 2) and is_kit_of(registry, value[0]) and is_state_of(registry, value[0], value[1])
-
-
 def is_fates(registry, roots, value):
     """Whether any value tells a fate of each state."""
     given = given_clauses(registry, roots)
-    if not isinstance(value, dict) or not all([is_pair_of(registry, pair) for pair in value]):
+    if not isinstance(value, dict) or not all([is_state_pair(registry, pair) for pair in value]):
         return False
     many = sum([len(registry.versions(kit)) + 1 for kit in registry.kits])
     return len(value) == many and all(

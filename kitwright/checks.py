@@ -3,7 +3,7 @@
 from kitwright.errors import BadNumber, BadRanked, BadRoots, BadSet, NoKit, NoVersion
 from kitwright.ranges import is_kit, is_version
 from kitwright.registries import is_ranges
-from kitwright.values import is_index, is_list, is_number
+from kitwright.values import is_index, is_list, is_number, is_tuple_of
 
 
 def check_roots(roots):
@@ -25,6 +25,11 @@ def is_version_of(registry, kit, value):
 def is_state_of(registry, kit, value):
     """Whether any value is a state of a kit of the registry."""
     return value == () or is_version_of(registry, kit, value)
+
+
+def is_state_pair(registry, value):
+    """Whether any value is a pair of a kit of the registry and a state of it."""
+    return is_tuple_of(value, 2) and is_kit_of(registry, value[0]) and is_state_of(registry, value[0], value[1])
 
 
 def is_set_of(registry, value):

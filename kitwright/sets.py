@@ -127,6 +127,18 @@ def trimmed(registry, roots, chosen):
     return {kit: chosen[kit] for kit in reached(registry, roots, chosen)}
 
 
+def is_all_reached(registry, roots, chosen):
+    """Whether all kits of a set are reached."""
+    return len(reached(registry, roots, chosen)) == len(chosen)
+
+
+def check_install(registry, roots, chosen):
+    """Refuses, behind what is no set, a set that is no install."""
+    check_sound(registry, roots, chosen)
+    if not is_all_reached(registry, roots, chosen):
+        raise NotSound("an install is wanted")
+
+
 def sound_sets(registry, roots):
     """The ascending list of the sound sets."""
     check_registry(registry)
@@ -137,7 +149,7 @@ def sound_sets(registry, roots):
 
 def installs(registry, roots):
     """The ascending list of the sound sets all of whose kits are reached."""
-    return [chosen for chosen in sound_sets(registry, roots) if len(reached(registry, roots, chosen)) == len(chosen)]
+    return [chosen for chosen in sound_sets(registry, roots) if is_all_reached(registry, roots, chosen)]
 
 
 def how_many(registry, roots):

@@ -11,10 +11,11 @@ import kitwright.errors
 from kitwright.errors import NotRange
 from kitwright.ranges import Range, is_kit
 from kitwright.registries import Registry
-from tests.samples import ALL, APP, EMPTY, LOW, V1, V2, Case, any_values, kits_dict, strict
+from tests.samples import ALL, APP, EMPTY, HIGH, LOW, V1, V2, Case, any_values, kits_dict, strict
 
 ROOT = pathlib.Path(__file__).resolve().parent.parent
-MODULES = ["errors", "ranges", "rangetexts", "registries", "sets", "clauses", "refuting", "best", "quarrels"]
+MODULES = ["errors", "ranges", "rangetexts", "registries", "sets", "clauses", "refuting", "best", "quarrels", "rulings",
+           "floors", "raising", "ways", "touching", "prices", "loading", "staying", "webs"]
 
 # Each parameter with the error that any wrong value in its place raises; none behind a name: any value may stand there.
 SPEC = """
@@ -97,9 +98,94 @@ quarrels demands_of roots:BadRoots
 quarrels quarrels registry:NotRegistry demands:BadDemands
 quarrels gifts registry:NotRegistry demands:BadDemands
 quarrels meeting_lots lots:BadLots many:BadNumber
+rulings ruling registry:NotRegistry demands:BadDemands
+rulings is_ruling registry:NotRegistry demands:BadDemands value
+rulings left_states registry:NotRegistry demands:BadDemands kit:NoKit
+rulings stand_ins registry:NotRegistry demands:BadDemands index:BadNumber
+rulings cheapest_gifts registry:NotRegistry demands:BadDemands prices:BadPrices
+floors is_floors registry:NotRegistry roots:BadRoots
+floors first_pair registry:NotRegistry kit:NoKit ranged:NotRange
+floors met registry:NotRegistry roots:BadRoots
+floors lacks registry:NotRegistry roots:BadRoots
+floors floor_list registry:NotRegistry roots:BadRoots
+floors pair_chain registry:NotRegistry roots:BadRoots kit:NoKit version:NoVersion
+floors is_pair_chain registry:NotRegistry roots:BadRoots value
+floors is_closed registry:NotRegistry roots:BadRoots value
+raising rises registry:NotRegistry
+raising falls registry:NotRegistry
+raising lower registry:NotRegistry roots:BadRoots
+raising least_paper registry:NotRegistry roots:BadRoots
+raising is_least_paper registry:NotRegistry roots:BadRoots value
+raising raised registry:NotRegistry roots:BadRoots kit:NoKit
+raising last_list registry:NotRegistry roots:BadRoots
+raising bounded registry:NotRegistry bounds:BadBounds
+raising lowered registry:NotRegistry roots:BadRoots bounds:BadBounds
+raising bar_chain registry:NotRegistry bounds:BadBounds kit:NoKit version:NoVersion
+ways steps_at registry:NotRegistry roots:BadRoots chosen:BadSet
+ways stepped registry:NotRegistry roots:BadRoots chosen:BadSet step:BadStep
+ways passed registry:NotRegistry roots:BadRoots one:BadSet way:BadWay
+ways is_way registry:NotRegistry roots:BadRoots one:BadSet other:BadSet value
+ways far registry:NotRegistry roots:BadRoots one:BadSet other:BadSet
+ways first_way registry:NotRegistry roots:BadRoots one:BadSet other:BadSet
+ways ways_count registry:NotRegistry roots:BadRoots one:BadSet other:BadSet
+ways way_at registry:NotRegistry roots:BadRoots one:BadSet other:BadSet number:BadNumber
+ways heights_to registry:NotRegistry roots:BadRoots other:BadSet
+ways are_heights registry:NotRegistry roots:BadRoots other:BadSet value
+ways isles registry:NotRegistry roots:BadRoots
+ways is_shut registry:NotRegistry roots:BadRoots value
+ways isle_paper registry:NotRegistry roots:BadRoots one:BadSet other:BadSet
+ways is_isle_paper registry:NotRegistry roots:BadRoots one:BadSet other:BadSet value
+touching way_within registry:NotRegistry roots:BadRoots one:BadSet other:BadSet lot:BadLot
+touching doing_lots registry:NotRegistry roots:BadRoots one:BadSet other:BadSet
+touching barring_lots registry:NotRegistry roots:BadRoots one:BadSet other:BadSet
+touching stillness registry:NotRegistry roots:BadRoots one:BadSet other:BadSet lot:BadLot
+touching is_stillness registry:NotRegistry roots:BadRoots one:BadSet other:BadSet lot:BadLot value
+touching narrows registry:NotRegistry roots:BadRoots one:BadSet other:BadSet
+touching way_round registry:NotRegistry roots:BadRoots one:BadSet other:BadSet chosen:BadSet
+touching ways_apart registry:NotRegistry roots:BadRoots one:BadSet other:BadSet
+prices way_price registry:NotRegistry roots:BadRoots prices:BadPrices one:BadSet way:BadWay
+prices cheapest_way registry:NotRegistry roots:BadRoots prices:BadPrices one:BadSet other:BadSet
+prices price_heights registry:NotRegistry roots:BadRoots prices:BadPrices other:BadSet
+prices are_price_heights registry:NotRegistry roots:BadRoots prices:BadPrices other:BadSet value
+prices crossing registry:NotRegistry roots:BadRoots later:BadRoots prices:BadPrices one:BadSet other:BadSet
+prices least_room registry:NotRegistry roots:BadRoots sizes:BadSizes one:BadSet other:BadSet
+prices room_paper registry:NotRegistry roots:BadRoots sizes:BadSizes one:BadSet other:BadSet
+prices is_room_paper registry:NotRegistry roots:BadRoots sizes:BadSizes one:BadSet other:BadSet room:BadNumber value
+loading groups registry:NotRegistry chosen:BadSet
+loading group_paper registry:NotRegistry chosen:BadSet one:NoKit other:NoKit
+loading is_group_paper registry:NotRegistry chosen:BadSet one:NoKit other:NoKit value
+loading hints registry:NotRegistry chosen:BadSet
+loading heeded registry:NotRegistry chosen:BadSet
+loading against registry:NotRegistry chosen:BadSet hint:BadHint
+loading is_against registry:NotRegistry chosen:BadSet hint:BadHint value
+loading is_order registry:NotRegistry chosen:BadSet value
+loading order_count registry:NotRegistry chosen:BadSet
+loading order_at registry:NotRegistry chosen:BadSet index:BadNumber
+loading rule_order registry:NotRegistry chosen:BadSet
+loading ahead_paper registry:NotRegistry chosen:BadSet one:NoKit other:NoKit
+loading is_ahead_paper registry:NotRegistry chosen:BadSet one:NoKit other:NoKit value
+loading swapped registry:NotRegistry chosen:BadSet order:BadOrder swap:BadSwap
+loading swaps registry:NotRegistry chosen:BadSet order:BadOrder goal:BadOrder
+staying staying registry:NotRegistry first:BadSet second:BadSet
+staying staying_paper registry:NotRegistry first:BadSet second:BadSet
+staying is_staying_paper registry:NotRegistry first:BadSet second:BadSet value
+staying ahead_word registry:NotRegistry roots:BadRoots one:NoKit other:NoKit
+staying word_paper registry:NotRegistry roots:BadRoots one:NoKit other:NoKit
+staying is_word_paper registry:NotRegistry roots:BadRoots one:NoKit other:NoKit value
+staying always_ahead registry:NotRegistry roots:BadRoots
+webs is_web registry:NotRegistry roots:BadRoots value
+webs heights registry:NotRegistry
+webs web_for registry:NotRegistry roots:BadRoots
+webs stuck registry:NotRegistry roots:BadRoots
+webs is_stuck registry:NotRegistry roots:BadRoots value
+webs fewest_nodes registry:NotRegistry roots:BadRoots
+webs is_lean registry:NotRegistry roots:BadRoots value
+webs web_of registry:NotRegistry roots:BadRoots chosen:BadSet
 """
 # Where the errors do not come from left to right.
 TURNED = {"meeting_lots": ["many", "lots"]}
+FLOORS = {"app": {V1: ({"lib": ALL}, {}, ()), V2: ({"lib": HIGH}, {}, ("lib",))}, "lib": {V1: EMPTY, V2: EMPTY}}
+ROUND = {"app": {V1: ({"lib": LOW}, {}, ("lib",)), V2: ({"lib": HIGH}, {}, ())}, "lib": {V1: ({"app": LOW}, {}, ()), V2: EMPTY}}
 METHODS = {"Range": {"stretches", "__contains__", "__and__", "__or__", "__sub__", "__invert__", "__eq__"},
            "Registry": {"kits", "named", "versions", "manifest", "published", "withdrawn", "__eq__"}}
 
@@ -122,6 +208,24 @@ def good_values(function):
         "line": (V1, ()), "entry": ("lib", V2, "clash", "app"), "manifest": ({"lib": LOW}, {}, ("lib",)), "many": 3,
         "lots": [(0, 1), (1, 2)], "demands": [("want", "app", LOW), ("bar", "lib", LOW)], "text": "1.2.3",
         "names": {"app": "x", "lib": "y"}, "inside": [V1], "outside": [V2], "ranged": LOW, "one": LOW, "other": ALL}
+    found.update({
+        "index": 0, "prices": {"app": (1, 2, 3), "lib": (0, 0, 1000)}, "sizes": dict.fromkeys(("app", "lib"), {V1: 1, V2: 5}),
+        "bounds": {"lib": V1}, "step": ("lib", V2), "way": [("app", ()), ("lib", V2)], "lot": ("app", "lib"), "room": 6,
+        "later": {"lib": HIGH}, "hint": ("lib", "app"), "order": ("lib", "app"), "goal": ("app", "lib"), "swap": ("kits", 0),
+        "first": {"app": V1, "lib": V1}, "second": {"app": V2, "lib": V1}})
+    module = function.__module__.split(".")[1]
+    if module == "rulings":
+        found["prices"] = [3, 0]
+    if module in ("floors", "raising"):
+        found.update({"registry": Registry(FLOORS), "roots": {"app": ALL}, "ranged": HIGH})
+    if module in ("ways", "touching", "prices"):
+        found.update({"roots": {"lib": ALL}, "one": {"app": V1, "lib": V1}, "other": {"lib": V2}, "chosen": {"lib": V1}})
+    if module in ("loading", "staying"):
+        found.update({"registry": Registry(ROUND), "roots": {"app": ALL}, "one": "app", "other": "lib"})
+    if function.__name__ in ("swapped", "swaps"):
+        found["chosen"] = {"app": V2, "lib": V1}
+    if function.__name__ == "web_of":
+        found["chosen"] = {"app": V1, "lib": V1}
     if function.__name__ in ("together", "same_sets", "parting_set"):
         found.update({"one": Registry(APP), "other": Registry(APP)})
     if function.__name__ == "together":
@@ -137,9 +241,12 @@ def good_values(function):
     return {name: found[name] for name in inspect.signature(function).parameters}
 
 
-def is_right(error, value):
+def is_right(error, value, function):
     """Whether a value of any_values is right in the place of a parameter with this error, in good_values."""
     name, told = error.__name__, repr(value)
+    if function.__name__ in ("first_pair", "is_room_paper") and name in ("NotRange", "BadNumber", "NoKit"):
+        kinds = {"NotRange": (), "NoKit": is_kit(value), "BadNumber": isinstance(value, int) and not isinstance(value, bool)}
+        return bool(kinds[name])
     if name in ("NotRegistry", "NotRange"):
         return isinstance(value, Registry if name == "NotRegistry" else Range)
     if name == "BadRoots":
@@ -154,7 +261,8 @@ def is_right(error, value):
         return isinstance(value, (list, tuple)) and all(isinstance(one, tuple) and one in ((), (0,)) for one in value)
     return told in {
         "BadText": ["'1.2.3'", "'none'", "'*'"], "BadSet": ["{}"], "BadClause": ["()"], "BadDemands": ["[]", "()"],
-        "BadNumber": ["0", "1", "3", str(10 ** 99)], "BadLine": ["((), ())", "((1, 0, 0), (2, 0, 0))"]}.get(name, [])
+        "BadNumber": ["0", "1", "3", str(10 ** 99)], "BadLine": ["((), ())", "((1, 0, 0), (2, 0, 0))"],
+        "BadWay": ["[]", "()"], "BadLot": ["()"], "BadBounds": ["{}"], "BadPrices": ["(1, 0)"]}.get(name, [])
 
 
 class Interface(Case):
@@ -217,9 +325,8 @@ class AllParameters(Case):
                 for value in any_values():
                     if error is None:
                         function(**{**good_values(function), name: value})
-                    elif error.__name__ != "BadRows" and not is_right(error, value):
-                        told = {word: value for word in ("kit", "version") if word == name}
-                        told = told if error.__name__ in ("NoKit", "NoVersion") else {}
+                    elif error.__name__ != "BadRows" and not is_right(error, value, function):
+                        told = {"NoKit": {"kit": value}, "NoVersion": {"version": value}}.get(error.__name__, {})
                         wrong = {**good_values(function), name: value}
                         self.refuses(error, function, *wrong.values(), **told)
 
