@@ -107,37 +107,37 @@ def check_unlike(registry, roots, one, other):
         raise NoKit(other)
 
 
-def shared_installs(registry, roots, one, other):
-    """The ascending list of the installs that have two kits."""
-    return [chosen for chosen in installs(registry, roots) if one in chosen and other in chosen]
-
-
-def all_links(registry, sets, one, other):
-    """The list of the pairs (set, links) with links that lead from a kit to another one, where there are such."""
-    found = [(chosen, Load(registry, chosen)) for chosen in sets]
-    told = [(chosen, load.leading(load.links, one, other)) for chosen, load in found]
-    return [(chosen, links) for chosen, links in told if links is not None]
-
-
-def first_order(registry, sets, one, other):
-    """The first pair (set, order) whose order has a kit ahead of another one."""
+def shared_loads(registry, roots, one, other):
+    """The list of the pairs (install, loading) of all installs that have two kits, ascending."""
     return [
-        (chosen, order) for chosen in sets for order in all_orders(Load(registry, chosen))
+        (chosen, Load(registry, chosen)) for chosen in installs(registry, roots) if one in chosen and other in chosen]
+
+
+def all_links(loads, one, other):
+    """The list of the pairs (install, links) with links that lead from a kit to another one, where there are such."""
+    found = [(chosen, load.leading(load.links, one, other)) for chosen, load in loads]
+    return [(chosen, links) for chosen, links in found if links is not None]
+
+
+def first_order(loads, one, other):
+    """The first pair (install, order) whose order has a kit ahead of another one."""
+    return [
+        (chosen, order) for chosen, load in loads for order in all_orders(load)
         if order.index(one) < order.index(other)][0]
 
 
 def word_paper(registry, roots, one, other):
     """The word of two kits, with what shows it in all installs that have both."""
     check_unlike(registry, roots, one, other)
-    sets = shared_installs(registry, roots, one, other)
-    if not sets:
+    loads = shared_loads(registry, roots, one, other)
+    if not loads:
         return "apart", []
-    ahead, behind = all_links(registry, sets, one, other), all_links(registry, sets, other, one)
-    if len(ahead) == len(sets):
+    ahead, behind = all_links(loads, one, other), all_links(loads, other, one)
+    if len(ahead) == len(loads):
         return "ahead", ahead
-    if len(behind) == len(sets):
+    if len(behind) == len(loads):
         return "behind", behind
-    return "either", [first_order(registry, sets, one, other), first_order(registry, sets, other, one)]
+    return "either", [first_order(loads, one, other), first_order(loads, other, one)]
 
 
 def ahead_word(registry, roots, one, other):
@@ -145,31 +145,24 @@ def ahead_word(registry, roots, one, other):
     return word_paper(registry, roots, one, other)[0]
 
 
-def is_same_set(registry, chosen, value):
-    """Whether any value is this set of the registry."""
-    return is_set_of(registry, value) and value == chosen
+def is_pair_with(registry, chosen, value):
+    """Whether any value is a pair of this set of the registry and something else."""
+    return is_tuple_of(value, 2) and is_set_of(registry, value[0]) and value[0] == chosen
 
 
-def is_linked(registry, chosen, one, other, value):
-    """Whether any value is a pair of this set and a list of links that leads there from a kit to another one."""
-    if not is_tuple_of(value, 2) or not is_same_set(registry, chosen, value[0]):
+def are_linked(registry, loads, one, other, value):
+    """Whether any value is a list of pairs of all installs, in their order, and links from a kit to another one."""
+    if not is_list(value) or len(value) != len(loads):
         return False
-    load = Load(registry, chosen)
-    return load.leads(load.links, one, other, value[1])
+    return all([
+        is_pair_with(registry, chosen, pair) and load.leads(load.links, one, other, pair[1])
+        for (chosen, load), pair in zip(loads, value)])
 
 
-def are_linked(registry, sets, one, other, value):
-    """Whether any value is a list of such pairs of all these sets, in their order."""
-    return is_list(value) and len(value) == len(sets) and all(
-        [is_linked(registry, chosen, one, other, pair) for chosen, pair in zip(sets, value)])
-
-
-def is_ordered(registry, sets, one, other, value):
-    """Whether any value is a pair of one of these sets and an order of it with a kit ahead of another one."""
-    if not is_tuple_of(value, 2) or not any([is_same_set(registry, chosen, value[0]) for chosen in sets]):
-        return False
-    chosen, order = value
-    return is_order_of(Load(registry, chosen), order) and order.index(one) < order.index(other)
+def is_ordered(registry, loads, one, other, value):
+    """Whether any value is a pair of one of the installs and an order of it with a kit ahead of another one."""
+    found = [load for chosen, load in loads if is_pair_with(registry, chosen, value)]
+    return any([is_order_of(load, value[1]) for load in found]) and value[1].index(one) < value[1].index(other)
 
 
 def is_word_paper(registry, roots, one, other, value):
@@ -177,20 +170,27 @@ def is_word_paper(registry, roots, one, other, value):
     word = ahead_word(registry, roots, one, other)
     if not is_tuple_of(value, 2) or value[0] != word:
         return False
-    sets, told = shared_installs(registry, roots, one, other), value[1]
+    loads, told = shared_loads(registry, roots, one, other), value[1]
     if word == "either":
         return is_list(told) and len(told) == 2 and is_ordered(
-            registry, sets, one, other, told[0]) and is_ordered(registry, sets, other, one, told[1])
+            registry, loads, one, other, told[0]) and is_ordered(registry, loads, other, one, told[1])
     if word == "behind":
-        return are_linked(registry, sets, other, one, told)
-    # There are no sets to tell of if the word is "apart".
-    return are_linked(registry, sets, one, other, told)
+        return are_linked(registry, loads, other, one, told)
+    # There are no installs to tell of if the word is "apart".
+    return are_linked(registry, loads, one, other, told)
+
+
+def is_ahead_in_all(loads, one, other):
+    """Whether some loading has two kits, and links lead from the one to the other in all that have both."""
+    found = [load.leading(load.links, one, other) for load in loads if one in load.own and other in load.own]
+    return len(found) > 0 and all([links is not None for links in found])
 
 
 def always_ahead(registry, roots):
     """The ascending list of the pairs of unlike kits of which the first one stands ahead in all installs with both."""
     check_registry(registry)
     check_roots(roots)
+    loads = [Load(registry, chosen) for chosen in installs(registry, roots)]
     return [
         (one, other) for one in registry.kits for other in registry.kits
-        if one != other and ahead_word(registry, roots, one, other) == "ahead"]
+        if one != other and is_ahead_in_all(loads, one, other)]

@@ -107,7 +107,8 @@ class Promise38(Case):
         against, free = ruling(registry, DEMANDS)
         clauses = given_clauses(registry, {}) + demand_clauses(registry, DEMANDS)
         rows = refutation(registry, clauses)
-        self.assertIs(is_ruling(registry, DEMANDS, (against + [((0, 1, 2), rows)], free)), False)
+        for more in (against + [((0, 1, 2), rows)], [((0, 1, 2), rows)] + against):
+            self.assertIs(is_ruling(registry, DEMANDS, (more, free)), False)
         self.assertIs(is_ruling(registry, DEMANDS, ([((0, 1, 2), rows)], [((0,), {}), ((1,), {}), ((2,), {})])), False)
         self.assertIs(is_ruling(registry, DEMANDS, (against[:1] + [((0, 1, 2), rows)], free)), False)
         self.assertIs(is_ruling(registry, DEMANDS, (against, free + [((0, 1), {})])), False)
@@ -127,6 +128,19 @@ class Promise38(Case):
         self.assertIs(is_ruling(registry, [], ((), (((), {"c": V2}),))), True)
         self.assertIs(is_ruling(registry, [], ((), ())), False)
         self.assertIs(is_ruling(registry, [], ([((), [("given", 0)])], [])), False)
+
+    def test_demands_that_every_set_meets(self):
+        # Their clauses are None, and left out ahead of those of the other demands.
+        registry = Registry(BY_HAND)
+        demands = [("bar", "zz", ALL), *DEMANDS[:2]]
+        against, free = ruling(registry, demands)
+        self.same([lot for lot, _ in against], [(1, 2)])
+        self.same([lot for lot, _ in free], [(1,), (2,)])
+        rows = against[0][1]
+        self.assertIs(is_ruling(registry, demands, ([((0, 1, 2), rows)], free)), False)
+        more = [((0,), {}), ((1,), free[0][1]), ((2,), free[1][1])]
+        self.assertIs(is_ruling(registry, demands, ([((0, 1, 2), rows)], more)), False)
+        self.assertIs(is_ruling(registry, demands, ([((0,), rows)], [((0,), {})])), False)
 
     def test_demands_twice(self):
         registry = Registry(APP)
