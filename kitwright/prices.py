@@ -189,12 +189,17 @@ def room_to(roads, sizes, line, goal):
     return None
 
 
-def least_room(registry, roots, sizes, one, other):
-    """The least number that no set on some way is beyond, and such a way; None without a way."""
+def room_between(registry, roots, sizes, one, other):
+    """The roads, the lines of two sets, and the least room of a way between them, None without a way."""
     check_sized(registry, roots, sizes, one, other)
     roads = roads_of(registry, roots)
     start, goal = line_on(roads, one), line_on(roads, other)
-    room = room_to(roads, sizes, start, goal)
+    return roads, start, goal, room_to(roads, sizes, start, goal)
+
+
+def least_room(registry, roots, sizes, one, other):
+    """The least number that no set on some way is beyond, and such a way; None without a way."""
+    roads, start, goal, room = room_between(registry, roots, sizes, one, other)
     if room is None:
         return None
     return room, shortest_way(lighter(roads, sizes, room + 1), start, goal)
@@ -207,10 +212,7 @@ def lighter(roads, sizes, room):
 
 def room_paper(registry, roots, sizes, one, other):
     """A room paper for the least room, None without a way."""
-    check_sized(registry, roots, sizes, one, other)
-    roads = roads_of(registry, roots)
-    start, goal = line_on(roads, one), line_on(roads, other)
-    room = room_to(roads, sizes, start, goal)
+    roads, start, goal, room = room_between(registry, roots, sizes, one, other)
     if room is None:
         return None
     less = lighter(roads, sizes, room)

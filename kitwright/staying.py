@@ -121,8 +121,9 @@ def all_links(loads, one, other):
 
 def first_order(loads, one, other):
     """The first pair (install, order) whose order has a kit ahead of another one."""
+    # The install is copied, as another order may be told of the same one.
     return [
-        (chosen, order) for chosen, load in loads for order in all_orders(load)
+        (dict(chosen), order) for chosen, load in loads for order in all_orders(load)
         if order.index(one) < order.index(other)][0]
 
 

@@ -31,10 +31,10 @@ def reached_nodes(tops, links):
 
 def goes_round(links):
     """Whether some node is reached from itself by links; those for which none are told lead nowhere."""
-    left = list(links)
+    left = {node: True for node in links}
     while left:
         # Where nothing goes round, some node leads to none of those that are left.
-        rest = [node for node in left if any([other in left for other in links[node].items()])]
+        rest = {node: True for node in left if any([other in left for other in links[node].items()])}
         if len(rest) == len(left):
             return True
         left = rest

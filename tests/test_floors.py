@@ -364,6 +364,7 @@ class Promise43(Case):
                                      [("b", V1)], {("b", V1): 1}, (("b", V1, 1),), (("zz", V1),), (("b", V3),)]:
             self.assertIs(is_pair_chain(registry, roots, value), False, repr(value))
             self.assertIs(is_pair_chain(registry, roots, (("b", V1), value)), False, repr(value))
+            self.assertIs(is_pair_chain(registry, roots, (("b", V1), value, ("d", V2))), False, repr(value))
             self.assertIs(is_closed(registry, roots, value), False, repr(value))
             self.assertIs(is_closed(registry, {}, (value,)), False, repr(value))
             if not isinstance(value, str) or value not in "bcd":

@@ -190,10 +190,11 @@ class Promise60(Case):
         self.assertIs(is_group_paper(**told, value=("round", ["log", "net", "log", "net", "log"])), True)
         for value in [("round", ["net", "log", "net"]), ("round", ["log", "log"]), ("round", ["log"]), ("round", []),
                       ["round", ["log", "net", "log"]], ("round", ["log", "net", "log"], 1), ("split", ("log",)),
-                      ("split", ()), ("split", ["log"]), ("Round", ["log", "net", "log"]), ("round",)]:
+                      ("split", ()), ("split", ["log"]), ("Round", ["log", "net", "log"]), ("round",),
+                      ("round", ["net", "log"]), ("round", ["log", "net"]), ("round", ["net", "log", "net", "log"])]:
             self.assertIs(is_group_paper(**told, value=value), False, value)
         for value in [("split", ("net", "log")), ("split", ("log", "net", "zz")), ("split", ("log", "log", "net")),
-                      ("split", ("app", "log", "net")), ("split", ())]:
+                      ("split", ("app", "log", "net")), ("split", ()), ("Split", ("log", "net")), (None, ("log", "net"))]:
             self.assertIs(is_group_paper(house, ALL_OF_HOUSE, "app", "net", value), False, value)
         for value in any_values():
             for word in ("round", "split", value):

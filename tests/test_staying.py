@@ -306,6 +306,11 @@ class Promise65(Case):
         self.assertIs(is_word_paper(Registry(kits), {"a": ALL, "b": ALL}, "a", "b", value), True)
         value = ("either", [({"a": V2, "b": V1}, ("a", "b")), paper[1][1]])
         self.assertIs(is_word_paper(Registry(kits), {"a": ALL, "b": ALL}, "a", "b", value), False)
+        for value in any_values() + [dict(enumerate(paper[1])), paper[1] + paper[1], paper[1][:1]]:
+            self.assertIs(is_word_paper(Registry(kits), {"a": ALL, "b": ALL}, "a", "b", ("either", value)), False)
+        # Two orders of one install are told without sharing what can be changed.
+        paper[1][0][0].clear()
+        self.same(paper[1][1], ({"a": V1, "b": V1}, ("b", "a")))
 
     def test_strict_sets(self):
         house, roots = Registry(HOUSE), {"app": ALL}

@@ -8,7 +8,7 @@ from kitwright.registries import Registry
 from kitwright.touching import (
     barring_lots, doing_lots, is_stillness, narrows, stillness, way_round, way_within, ways_apart)
 from kitwright.ways import far, is_way, passed
-from tests.roadmaps import TWO, distances, road_cases, road_map, shortest_ways, simple_ways, some_pairs, walked
+from tests.roadmaps import TWO, distances, only, road_cases, road_map, shortest_ways, simple_ways, some_pairs, walked
 from tests.samples import ALL, EMPTY, V1, V2, V3, Case, any_values, plain_line, plain_set, plain_sets
 
 ONE, OTHER = {"a": V1, "b": V1}, {"a": V2, "b": V2}
@@ -111,6 +111,22 @@ class Promise53(Case):
         self.assertIs(is_stillness(registry, {}, ONE, ONE, (), [(V1, V1)]), False)
         self.same([doing_lots(registry, {"a": ALL}, ONE, OTHER), barring_lots(registry, {"a": ALL}, ONE, OTHER)], [[], [()]])
         self.same([doing_lots(registry, {}, OTHER, OTHER), barring_lots(registry, {}, OTHER, OTHER)], [[()], []])
+
+    def test_a_lot_that_takes_more_steps(self):
+        # p and q can not change at once: either c makes room for p, or d and e make room for q.
+        kits = {"p": {V1: ({}, {"q": only(V2)}, ()), V2: ({}, {"q": only(V1)}, ()), V3: ({}, {"c": ALL}, ())},
+                "q": {V1: EMPTY, V2: EMPTY, V3: ({}, {"d": ALL, "e": ALL}, ())},
+                "c": {V1: EMPTY}, "d": {V1: EMPTY}, "e": {V1: EMPTY}}
+        one = {"c": V1, "d": V1, "e": V1, "p": V1, "q": V1}
+        told = {"registry": Registry(kits), "roots": {"p": ALL, "q": ALL}, "one": one, "other": {**one, "p": V2, "q": V2}}
+        self.same(doing_lots(**told), [("c", "p", "q"), ("d", "e", "p", "q")])
+        self.same(barring_lots(**told), [("p",), ("q",), ("c", "d"), ("c", "e")])
+        self.same([len(way_within(**told, lot=lot)) for lot in doing_lots(**told)], [5, 7])
+        self.same(len(way_within(**told, lot=("c", "d", "e", "p", "q"))), 5)
+        self.same(way_within(**told, lot=("d", "p", "q")), None)
+        # The one way can be gone without the sets of the other one.
+        self.assertIsNotNone(ways_apart(**told))
+        self.same(narrows(**told), [])
 
     def test_no_lots(self):
         registry = Registry(TWO)

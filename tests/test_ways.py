@@ -92,6 +92,10 @@ class Promise50(Case):
                 ("a", V1), ("b", ()), ("b", V2)) else None
             self.assertIs(is_way(registry, {}, ONE, ONE, value), value in ([], ()) and isinstance(value, (list, tuple)))
             self.assertIs(is_way(registry, {}, ONE, OTHER, [*WAY, value]), False)
+        # Steps that can be made, but for a True that stands in the place of 1.
+        self.refuses(BadStep, stepped, registry, {}, {}, ("b", (True, 0, 0)))
+        self.refuses(BadWay, passed, registry, {}, {}, [("b", V1), ("a", (True, 0, 0))], at=1)
+        self.assertIs(is_way(registry, {}, {}, {"b": V1}, [("b", (True, 0, 0))]), False)
 
     def test_fewer_roots_and_wider_ranges(self):
         kept = 0

@@ -8,7 +8,6 @@ from kitwright.errors import BadRoots, BadSet, NotRegistry, NotSound
 from kitwright.ranges import Range
 from kitwright.registries import Registry, renamed, together
 from kitwright.sets import installs
-from kitwright.webforms import has_web_form
 from kitwright.webs import fewest_nodes, heights, is_lean, is_stuck, is_web, stuck, web_for, web_of
 from tests.samples import (
     ALL, EMPTY, HIGH, LOW, NONE, V1, V2, V3, Case, any_values, has, plain_installs, plain_sets, some_kits, some_roots)
@@ -279,20 +278,26 @@ class Webs(Case):
         self.same(fewest_nodes(Registry(free), {"a": first}), 4)
 
 
-class WebForms(Case):
+def wrong_forms():
+    """Values that have not the form of a web, each with one thing otherwise."""
+    tops, links = HAND_WEB
+    node = ("e", V1)
+    return [list(HAND_WEB), (tops, links, 1), (tops,), (list(tops.items()), links), (tops, list(links.items())),
+            ({"e": (True, 0, 0)}, links), ({"e": [1, 0, 0]}, links), ({"E": V1}, links), ({"e": V1, 1: V1}, links),
+            (tops, {**links, "c": {}}), (tops, {**links, ("c",): {}}), (tops, {**links, ("c", (True, 1, 1)): {}}),
+            (tops, {**links, node: [("a", V1), ("c", V1)]}), (tops, {**links, node: {"a": V1, "c": [1, 0, 0]}}),
+            (tops, {**links, node: {"a": V1, "c": (True, 0, 0)}}), (tops, {**links, node: None}),
+            (tops, {**links, ("c", V1): ()}), (tops, {**links, ("c", V1): []}), ({}, links), (tops, {})]
+
+
+class Kinds(Case):
     def test_kinds(self):
         registry, roots = Registry(HAND), {"e": ALL}
         tops, links = HAND_WEB
         node = ("e", V1)
-        wrong = [list(HAND_WEB), (tops, links, 1), (tops,), (list(tops.items()), links), (tops, list(links.items())),
-                 ({"e": (True, 0, 0)}, links), ({"e": [1, 0, 0]}, links), ({"E": V1}, links), ({"e": V1, 1: V1}, links),
-                 (tops, {**links, "c": {}}), (tops, {**links, ("c",): {}}), (tops, {**links, ("c", (True, 1, 1)): {}}),
-                 (tops, {**links, node: [("a", V1), ("c", V1)]}), (tops, {**links, node: {"a": V1, "c": [1, 0, 0]}}),
-                 (tops, {**links, node: {"a": V1, "c": (True, 0, 0)}}), (tops, {**links, node: None}),
-                 (tops, {**links, ("c", V1): ()}), (tops, {**links, ("c", V1): []}), ({}, links), (tops, {})]
-        for value in wrong:
+        for value in wrong_forms():
             self.assertIs(is_web(registry, roots, value), False, value)
-            self.assertIs(has_web_form(value), False, value)
+            self.assertIs(is_lean(registry, roots, value), False, value)
         for value in any_values():
             self.assertIs(is_web(registry, roots, value), False)
             self.assertIs(is_web(registry, roots, (value, links)), False)
@@ -302,32 +307,28 @@ class WebForms(Case):
             self.assertIs(is_web(registry, roots, (tops, {**links, node: {"a": V1, "c": value}})), repr(value) == "(1, 0, 0)")
             self.assertIs(is_lean(registry, roots, value), False)
 
-    def test_conditions(self):
-        for tops, links, right in [
-                ({"e": V1}, HAND_WEB[1], True), ({}, {}, True), ({"x": V3}, {("x", V3): {}}, True),
-                # A node more, a node less, a node that no link leads to.
-                ({"x": V3}, {("x", V3): {}, ("y", V1): {}}, False), ({"x": V3}, {("x", V3): {"y": V1}}, False),
-                ({"x": V3}, {("x", V2): {}}, False), ({}, {("x", V3): {}}, False),
-                # Rings.
-                ({"x": V3}, {("x", V3): {"x": V3}}, False), ({"x": V3}, {("x", V3): {"x": V2}, ("x", V2): {}}, True),
-                ({"x": V3}, {("x", V3): {"x": V2}, ("x", V2): {"x": V3}}, False),
-                ({"x": V1}, {("x", V1): {"y": V1}, ("y", V1): {"z": V1}, ("z", V1): {"y": V1}}, False)]:
-            self.assertIs(has_web_form((tops, links)), right, (tops, links))
+    def test_nodes_that_are_not_there(self):
+        # The form of a web is right, but a node is none of the registry.
+        registry, (tops, links) = Registry(HAND), HAND_WEB
+        nine, top = (9, 9, 9), ("e", V1)
+        less = {node: links[node] for node in links if node != ("c", V1)}
+        for tops, links in [(tops, {**less, top: {"a": V1, "c": nine}, ("c", nine): {}}),
+                            (tops, {**links, top: {"a": V1, "c": V1, "zz": V1}, ("zz", V1): {}}),
+                            ({"e": nine}, {("e", nine): {}}), ({"e": nine}, {("e", nine): links[top], **links}),
+                            ({"e": nine}, {("e", nine): links[top], **{node: links[node] for node in links if node != top}})]:
+            self.assertIs(is_web(registry, {"e": ALL}, (tops, links)), False)
+            self.assertIs(is_lean(registry, {"e": ALL}, (tops, links)), False)
+        self.assertIs(is_web(registry, {"zz": ALL}, ({"zz": V1}, {("zz", V1): {}})), False)
 
-    def test_limits(self):
-        def form(*nodes):
-            tops = dict(nodes[:1])
-            return tops, {node: dict(nodes[at + 1:at + 2]) for at, node in enumerate(nodes)}
-        five = [(kit, V1) for kit in "abcde"]
-        self.assertIs(has_web_form(form(*five)), True)
-        self.assertIs(has_web_form(form(*five, ("f", V1))), False)
-        self.assertIs(has_web_form((dict(five[:4]), {node: {} for node in five[:4]})), True)
-        self.assertIs(has_web_form((dict(five), {node: {} for node in five})), False)
-        many = [(kit, (n, 0, 0)) for kit, most in zip("abcde", (4, 4, 3, 2, 1)) for n in range(1, most + 1)]
-        self.assertIs(has_web_form(form(*many)), True)
-        self.assertIs(has_web_form(form(*many, ("e", V2))), False)
-        self.assertIs(has_web_form(form(*[("a", (n, 0, 0)) for n in range(599)])), True)
-        self.assertIs(has_web_form(form(*[("a", (n, 0, 0)) for n in range(600)])), False)
+    def test_rings_and_nodes_too_many(self):
+        own = Registry({"x": {V1: EMPTY, V2: ({"x": ALL}, {}, ()), V3: ({"x": HIGH}, {}, ())}})
+        for tops, links, right in [
+                ({"x": V1}, {("x", V1): {}}, True), ({"x": V2}, {("x", V2): {"x": V1}, ("x", V1): {}}, True),
+                ({"x": V2}, {("x", V2): {"x": V2}}, False), ({"x": V2}, {("x", V2): {"x": V3}, ("x", V3): {"x": V2}}, False),
+                ({"x": V3}, {("x", V3): {"x": V2}, ("x", V2): {"x": V1}, ("x", V1): {}}, True),
+                ({"x": V3}, {("x", V3): {"x": V1}, ("x", V1): {}}, False), ({"x": V2}, {("x", V2): {"x": V1}}, False),
+                ({"x": V1}, {("x", V1): {}, ("x", V2): {"x": V1}}, False), ({}, {("x", V1): {}}, False)]:
+            self.assertIs(is_web(own, {"x": ALL}, (tops, links)), right, (tops, links))
 
 
 class WebOf(Case):
