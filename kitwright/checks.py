@@ -1,9 +1,9 @@
 """What is asked of parameters that are called alike in all parts."""
 
-from kitwright.errors import BadNumber, BadRanked, BadRoots, BadSet, NoKit, NoVersion
+from kitwright.errors import BadLot, BadNumber, BadRanked, BadRoots, BadSet, NoKit, NoVersion
 from kitwright.ranges import is_kit, is_version
 from kitwright.registries import is_ranges
-from kitwright.values import is_index, is_list, is_number, is_tuple_of
+from kitwright.values import is_index, is_list, is_number, is_rising, is_tuple_of
 
 
 def check_roots(roots):
@@ -25,6 +25,11 @@ def is_version_of(registry, kit, value):
 def is_state_of(registry, kit, value):
     """Whether any value is a state of a kit of the registry."""
     return value == () or is_version_of(registry, kit, value)
+
+
+def is_any_state(value):
+    """Whether any value is absence or a version, be it one of a registry or not."""
+    return value == () or is_version(value)
 
 
 def is_state_pair(registry, value):
@@ -84,6 +89,17 @@ def check_ranked(registry, ranked):
     """Refuses what is no list of all kits of the registry."""
     if not is_ranked(registry, ranked):
         raise BadRanked("a list of all kits of the registry is wanted, each once")
+
+
+def is_lot_among(kits, value):
+    """Whether any value is an ascending tuple of different ones of a list of kits."""
+    return isinstance(value, tuple) and all([kit in kits for kit in value]) and is_rising(value)
+
+
+def check_lot(kits, lot):
+    """Refuses what is no ascending tuple of different ones of a list of kits."""
+    if not is_lot_among(kits, lot):
+        raise BadLot("an ascending tuple of different kits is wanted")
 
 
 def check_index(value, many):

@@ -8,6 +8,11 @@ def all_lots(many):
     return [lot for size in range(many + 1) for lot in combinations(range(many), size)]
 
 
+def lots_at(names, lots):
+    """Lots of indexes as tuples of what stands there in a list of names."""
+    return [tuple([names[index] for index in lot]) for lot in lots]
+
+
 def lot_bits(lot):
     """A lot as the bits of a number."""
     bits = 0

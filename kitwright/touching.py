@@ -1,32 +1,19 @@
 """Which kits ways touch and which sets they pass: lots that do and that bar, narrows, and ways apart."""
 
 from kitwright.apart import two_apart
-from kitwright.checks import is_kit_of
-from kitwright.errors import BadLot
-from kitwright.lots import all_lots, least_lots, least_meeting
+from kitwright.checks import check_lot
+from kitwright.lots import all_lots, least_lots, least_meeting, lots_at
 from kitwright.roads import line_on, lines_passed, moving, roads_of, shortest_way, shuts_off, standing
 from kitwright.sets import check_sound
-from kitwright.values import is_rising
 from kitwright.ways import check_both
-
-
-def check_lot(registry, lot):
-    """Refuses what is no ascending tuple of different kits of the registry."""
-    if not isinstance(lot, tuple) or not all([is_kit_of(registry, kit) for kit in lot]) or not is_rising(lot):
-        raise BadLot("an ascending tuple of different kits of the registry is wanted")
 
 
 def way_within(registry, roots, one, other, lot):
     """A way with as few steps as can be that touches kits of a lot alone, None if there is none."""
     check_both(registry, roots, one, other)
-    check_lot(registry, lot)
+    check_lot(registry.kits, lot)
     roads = moving(roads_of(registry, roots), lot)
     return shortest_way(roads, line_on(roads, one), line_on(roads, other))
-
-
-def kits_at(registry, lots):
-    """Lots of indexes of kits as lots of kits."""
-    return [tuple([registry.kits[index] for index in lot]) for lot in lots]
 
 
 def doing_indexes(registry, roots, one, other):
@@ -35,26 +22,26 @@ def doing_indexes(registry, roots, one, other):
     start, goal = line_on(roads, one), line_on(roads, other)
     lots = all_lots(len(registry.kits))
     return least_lots([
-        lot for lot, kits in zip(lots, kits_at(registry, lots)) if goal in moving(roads, kits).distances(start)])
+        lot for lot, kits in zip(lots, lots_at(registry.kits, lots)) if goal in moving(roads, kits).distances(start)])
 
 
 def doing_lots(registry, roots, one, other):
     """The list of the least lots of kits that some way needs to touch, shorter first, then ascending."""
     check_both(registry, roots, one, other)
-    return kits_at(registry, doing_indexes(registry, roots, one, other))
+    return lots_at(registry.kits, doing_indexes(registry, roots, one, other))
 
 
 def barring_lots(registry, roots, one, other):
     """The list of the least lots of kits of which each way touches one, shorter first, then ascending."""
     check_both(registry, roots, one, other)
     doing = doing_indexes(registry, roots, one, other)
-    return kits_at(registry, least_meeting(doing, len(registry.kits)))
+    return lots_at(registry.kits, least_meeting(doing, len(registry.kits)))
 
 
 def stillness(registry, roots, one, other, lot):
     """The lines to which steps of kits of a lot lead from one set, None if the other one is among them."""
     check_both(registry, roots, one, other)
-    check_lot(registry, lot)
+    check_lot(registry.kits, lot)
     roads = moving(roads_of(registry, roots), lot)
     lines = sorted(roads.distances(line_on(roads, one)))
     return None if line_on(roads, other) in lines else lines
@@ -63,7 +50,7 @@ def stillness(registry, roots, one, other, lot):
 def is_stillness(registry, roots, one, other, lot, value):
     """Whether any value shows that a lot does not do."""
     check_both(registry, roots, one, other)
-    check_lot(registry, lot)
+    check_lot(registry.kits, lot)
     roads = moving(roads_of(registry, roots), lot)
     return shuts_off(registry, roads, line_on(roads, one), line_on(roads, other), value)
 

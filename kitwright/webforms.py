@@ -1,5 +1,6 @@
 """The form of webs, whatever the registry: which nodes are reached, and whether links go round."""
 
+from kitwright.errors import BadWeb
 from kitwright.ranges import is_kit, is_version
 from kitwright.registries import MOST_KITS, MOST_SETS, MOST_TOLD
 from kitwright.values import is_tuple_of
@@ -60,3 +61,9 @@ def has_web_form(value):
     if len(tops) > MOST_TOLD or not are_few(list(links)) or goes_round(links):
         return False
     return sorted(reached_nodes(tops, links)) == sorted(links)
+
+
+def check_web(web):
+    """Refuses what has not the form of a web."""
+    if not has_web_form(web):
+        raise BadWeb("a web is wanted")

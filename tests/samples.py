@@ -4,7 +4,10 @@ import copy
 import itertools
 import unittest
 
+from kitwright.desk import Desk
 from kitwright.errors import BadRange, KitError
+from kitwright.locks import Lock
+from kitwright.projects import Project
 from kitwright.ranges import Range
 from kitwright.registries import Registry
 
@@ -24,8 +27,10 @@ def any_values():
     lists = [[], [1, 0, 0], [V1], ["a"], ["a", "b"], [[[[]]]], [None], [(V1, V2)], [[V1, V2]], [()], [{}]]
     dicts = [{}, {"a": 1}, {"a": (True, 0, 0)}, {"a": [1, 0, 0]}, {"a": {}}, {1: V1}, {None: None}, {(): ()},
              {"A": V1}, {V1: EMPTY}, {"a": {V1: None}}, {True: {"a": ALL}}, {"zz": V1}, {"a": NONE, 1: NONE}]
-    objects = [Range([(V1, V2)]), Registry({"q": {V1: EMPTY}}), KitError("x"), BadRange(3),
-               [Range()], (Range(), Range()), {"q": Registry({"q": {V1: EMPTY}})}, {KitError("x"): 1}]
+    registry = Registry({"q": {V1: EMPTY}})
+    objects = [Range([(V1, V2)]), registry, KitError("x"), BadRange(3), Lock({}, {}), Project(registry, ["q"]), Desk(),
+               [Range()], (Range(), Range()), {"q": Registry({"q": {V1: EMPTY}})}, {KitError("x"): 1}, {Desk(): 1},
+               [Lock({}, {})], (Project(registry, ["q"]), Lock({}, {}))]
     return numbers + strings + tuples + lists + dicts + objects + [deep_value()]
 
 
@@ -47,6 +52,10 @@ def strict(value):
         return "Range", strict(value.stretches)
     if isinstance(value, Registry):
         return "Registry", strict(kits_dict(value))
+    if isinstance(value, Lock):
+        return "Lock", strict(value.roots), strict(value.pins)
+    if isinstance(value, Project):
+        return "Project", strict([value.registry, value.roots, value.ranked, value.held, value.log])
     return type(value).__name__, value
 
 
@@ -70,6 +79,12 @@ def spoil(value):
             value.append("spoilt")
     elif isinstance(value, Range):
         value.__init__([((7, 7, 7), None)])
+    elif isinstance(value, Registry):
+        value.__init__({"spoilt": {V1: EMPTY}})
+    elif isinstance(value, Lock):
+        value.__init__({"spoilt": Range()}, {})
+    elif isinstance(value, Project):
+        value.__init__(Registry({"spoilt": {V1: EMPTY}}), ["spoilt"])
 
 
 class Case(unittest.TestCase):

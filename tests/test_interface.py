@@ -8,14 +8,18 @@ import unittest
 
 import kitwright
 import kitwright.errors
+from kitwright.desk import Desk
 from kitwright.errors import NotRange
+from kitwright.locks import Lock
+from kitwright.projects import Project
 from kitwright.ranges import Range, is_kit
 from kitwright.registries import Registry
 from tests.samples import ALL, APP, EMPTY, HIGH, LOW, V1, V2, Case, any_values, kits_dict, strict
 
 ROOT = pathlib.Path(__file__).resolve().parent.parent
 MODULES = ["errors", "ranges", "rangetexts", "registries", "sets", "clauses", "refuting", "best", "quarrels", "rulings",
-           "floors", "raising", "ways", "touching", "prices", "loading", "staying", "webs"]
+           "floors", "raising", "ways", "touching", "prices", "loading", "staying", "webs", "layouts", "shelves", "locks",
+           "pinning", "merging", "toldback", "trying", "projects", "projectlogs", "desk"]
 
 # Each parameter with the error that any wrong value in its place raises; none behind a name: any value may stand there.
 SPEC = """
@@ -181,13 +185,106 @@ webs is_stuck registry:NotRegistry roots:BadRoots value
 webs fewest_nodes registry:NotRegistry roots:BadRoots
 webs is_lean registry:NotRegistry roots:BadRoots value
 webs web_of registry:NotRegistry roots:BadRoots chosen:BadSet
+layouts is_layout value
+layouts copies layout:BadLayout
+layouts finds layout:BadLayout path:BadPath kit:NoKit
+layouts misfit web:BadWeb layout:BadLayout
+layouts nested web:BadWeb
+layouts lifts web:BadWeb layout:BadLayout
+layouts lifted web:BadWeb layout:BadLayout path:BadPath
+layouts settled web:BadWeb layout:BadLayout
+shelves is_top web:BadWeb value
+shelves quarrel web:BadWeb top:BadTop
+shelves is_quarrel web:BadWeb top:BadTop value
+shelves shelf web:BadWeb top:BadTop kit:NoKit
+shelves shelved web:BadWeb top:BadTop
+shelves tops web:BadWeb
+shelves fewest_copies web:BadWeb
+shelves copies_paper web:BadWeb
+shelves is_copies_paper web:BadWeb value
+locks lock_of registry:NotRegistry roots:BadRoots chosen:BadSet
+locks lock_faults lock:NotLock
+locks wanted_by lock:NotLock
+locks leaves_with lock:NotLock lot:BadLot
+locks lost_pins registry:NotRegistry lock:NotLock
+pinning is_enough registry:NotRegistry roots:BadRoots pinned:BadPins lot:BadLot
+pinning holds_of registry:NotRegistry roots:BadRoots pinned:BadPins
+pinning least_frees registry:NotRegistry roots:BadRoots pinned:BadPins
+pinning free_paper registry:NotRegistry roots:BadRoots pinned:BadPins lot:BadLot
+pinning is_free_paper registry:NotRegistry roots:BadRoots pinned:BadPins lot:BadLot value
+pinning nearest_cost registry:NotRegistry roots:BadRoots pinned:BadPins weights:BadWeights
+pinning nearest_sets registry:NotRegistry roots:BadRoots pinned:BadPins weights:BadWeights
+pinning far_paper registry:NotRegistry roots:BadRoots pinned:BadPins weights:BadWeights most:BadNumber
+pinning is_far_paper registry:NotRegistry roots:BadRoots pinned:BadPins weights:BadWeights most:BadNumber value
+pinning freed_always registry:NotRegistry roots:BadRoots pinned:BadPins weights:BadWeights
+pinning kept_always registry:NotRegistry roots:BadRoots pinned:BadPins weights:BadWeights
+merging merged_range base:NotRange left:NotRange right:NotRange
+merging merged_roots base:BadRoots left:BadRoots right:BadRoots
+merging merged_pins base:BadPins left:BadPins right:BadPins
+merging merge_locks registry:NotRegistry base:NotLock left:NotLock right:NotLock ranked:BadRanked
+toldback is_culprit registry:NotRegistry value
+toldback culprits_in registry:NotRegistry chosen:BadSet
+toldback open_culprits registry:NotRegistry trials:BadTrials
+toldback fails_by registry:NotRegistry theory:BadTheory chosen:BadSet
+toldback is_fitting registry:NotRegistry trials:BadTrials value
+toldback contradiction registry:NotRegistry trials:BadTrials
+toldback is_contradiction registry:NotRegistry trials:BadTrials value
+toldback verdict registry:NotRegistry trials:BadTrials chosen:BadSet
+toldback is_verdict registry:NotRegistry trials:BadTrials chosen:BadSet value
+toldback sure_culprits registry:NotRegistry trials:BadTrials
+toldback wary_clauses registry:NotRegistry trials:BadTrials
+toldback hopeful_clauses registry:NotRegistry trials:BadTrials
+toldback safest registry:NotRegistry roots:BadRoots trials:BadTrials ranked:BadRanked
+toldback boldest registry:NotRegistry roots:BadRoots trials:BadTrials ranked:BadRanked
+toldback few_culprits registry:NotRegistry trials:BadTrials many:BadNumber taken:BadCulprits barred:BadCulprits
+toldback is_hunt registry:NotRegistry trials:BadTrials many:BadNumber taken:BadCulprits barred:BadCulprits value
+toldback fewest registry:NotRegistry trials:BadTrials
+toldback told_within registry:NotRegistry trials:BadTrials chosen:BadSet many:BadNumber
+toldback least_theories registry:NotRegistry trials:BadTrials
+toldback is_needless registry:NotRegistry trials:BadTrials at:BadIndex
+trying suspects registry:NotRegistry trials:BadTrials
+trying plan_for registry:NotRegistry roots:BadRoots trials:BadTrials
+trying is_plan_for registry:NotRegistry roots:BadRoots trials:BadTrials value
+trying tries registry:NotRegistry roots:BadRoots trials:BadTrials
+trying floor_for registry:NotRegistry roots:BadRoots trials:BadTrials
+trying is_floor registry:NotRegistry roots:BadRoots trials:BadTrials value
+trying would_tell registry:NotRegistry trials:BadTrials chosen:BadSet worked:BadWorked
+trying worth_trying registry:NotRegistry roots:BadRoots trials:BadTrials
+projectlogs log_of project:NotProject
+projectlogs first_wrong registry:NotRegistry ranked:BadRanked log
+projectlogs replayed registry:NotRegistry ranked:BadRanked log:BadLog
+projectlogs shortened registry:NotRegistry ranked:BadRanked log:BadLog
+projectlogs crossed registry:NotRegistry ranked:BadRanked log:BadLog at:BadNumber
 """
 # Where the errors do not come from left to right.
 TURNED = {"meeting_lots": ["many", "lots"]}
 FLOORS = {"app": {V1: ({"lib": ALL}, {}, ()), V2: ({"lib": HIGH}, {}, ("lib",))}, "lib": {V1: EMPTY, V2: EMPTY}}
 ROUND = {"app": {V1: ({"lib": LOW}, {}, ("lib",)), V2: ({"lib": HIGH}, {}, ())}, "lib": {V1: ({"app": LOW}, {}, ()), V2: EMPTY}}
 METHODS = {"Range": {"stretches", "__contains__", "__and__", "__or__", "__sub__", "__invert__", "__eq__"},
-           "Registry": {"kits", "named", "versions", "manifest", "published", "withdrawn", "__eq__"}}
+           "Registry": {"kits", "named", "versions", "manifest", "published", "withdrawn", "__eq__"},
+           "Lock": {"roots", "pins", "chosen", "__eq__"}, "Desk": {"say"},
+           "Project": {"registry", "roots", "ranked", "held", "log", "__len__", "want", "drop", "publish", "withdraw",
+                       "renew", "step", "undo", "is_best", "stale", "why", "without", "tried", "copy", "__enter__",
+                       "__exit__", "__eq__"}}
+CLASSES = {"Range": Range, "Registry": Registry, "Lock": Lock, "Project": Project, "Desk": Desk}
+HOMES = {"Range": "ranges", "Registry": "registries", "Lock": "locks", "Project": "projects", "Desk": "desk"}
+# What methods and classes take, besides the object itself.
+TAKEN = [(Range, ["stretches"]), (Registry, ["kits"]), (Registry.versions, ["kit"]), (Registry.manifest, ["kit", "version"]),
+         (Registry.published, ["kit", "version", "manifest"]), (Registry.withdrawn, ["kit", "version"]),
+         (Lock, ["roots", "pins"]), (Project, ["registry", "ranked"]), (Project.want, ["kit", "ranged"]),
+         (Project.drop, ["kit"]), (Project.publish, ["kit", "version", "manifest"]), (Project.withdraw, ["kit", "version"]),
+         (Project.renew, []), (Project.step, ["kit", "state"]), (Project.undo, []), (Project.is_best, []),
+         (Project.stale, []), (Project.why, ["kit"]), (Project.without, ["kit"]), (Project.tried, ["work"]),
+         (Project.copy, []), (Desk, []), (Desk.say, ["line"])]
+# A web with its layout, and a lock with its pins, for the registries of good_values.
+WEB = ({"app": V1}, {("app", V1): {"lib": V1}, ("lib", V1): {}})
+LOCK = ({"app": LOW}, {"app": (V1, ({"lib": LOW}, {}, ())), "lib": (V1, EMPTY)})
+TRIALS = [({"lib": V2}, True), ({"app": V1, "lib": V1}, False)]
+LOG = [(("want", "app", LOW), {"app": V1, "lib": V1}), (("renew",), {"app": V1, "lib": V1}), (("undo",), {"app": V1, "lib": V1})]
+
+
+# The errors that any value raises that is not of a kind.
+KINDS = {"NotRegistry": Registry, "NotRange": Range, "NotLock": Lock, "NotProject": Project}
 
 
 def rows():
@@ -220,6 +317,23 @@ def good_values(function):
         found.update({"registry": Registry(FLOORS), "roots": {"app": ALL}, "ranged": HIGH})
     if module in ("ways", "touching", "prices"):
         found.update({"roots": {"lib": ALL}, "one": {"app": V1, "lib": V1}, "other": {"lib": V2}, "chosen": {"lib": V1}})
+    found.update({
+        "web": WEB, "layout": {"app": (V1, {"lib": (V1, {})})}, "path": ("app", "lib"), "top": {"app": V1},
+        "lock": Lock(*LOCK), "pinned": {"app": V1, "lib": V2}, "weights": {"app": 3, "lib": 1}, "most": 2, "base": Lock(*LOCK),
+        "left": Lock(*LOCK), "right": Lock(*LOCK), "trials": TRIALS, "theory": ((("app", V1),),), "taken": [(("app", V1),)],
+        "barred": [(("lib", V1),)], "at": 0, "worked": True, "project": Project(Registry(APP), ["lib", "app"]), "log": LOG})
+    if module == "locks":
+        found["lot"] = ("app",)
+    if module == "layouts":
+        found["kit"] = "lib"
+    if function.__name__ == "lock_of":
+        found["chosen"] = {"app": V1, "lib": V1}
+    if function.__name__ == "merged_range":
+        found.update({"base": LOW, "left": ALL, "right": HIGH})
+    if function.__name__ == "merged_roots":
+        found.update({"base": {"app": LOW}, "left": {"app": ALL, "lib": LOW}, "right": {}})
+    if function.__name__ == "merged_pins":
+        found.update({"base": {"app": V1}, "left": {"app": V2, "lib": V1}, "right": {"app": (), "zz": V1}})
     if module in ("loading", "staying"):
         found.update({"registry": Registry(ROUND), "roots": {"app": ALL}, "one": "app", "other": "lib"})
     if function.__name__ in ("swapped", "swaps"):
@@ -244,11 +358,11 @@ def good_values(function):
 def is_right(error, value, function):
     """Whether a value of any_values is right in the place of a parameter with this error, in good_values."""
     name, told = error.__name__, repr(value)
-    if function.__name__ in ("first_pair", "is_room_paper") and name in ("NotRange", "BadNumber", "NoKit"):
+    if function.__name__ in ("first_pair", "is_room_paper", "finds") and name in ("NotRange", "BadNumber", "NoKit"):
         kinds = {"NotRange": (), "NoKit": is_kit(value), "BadNumber": isinstance(value, int) and not isinstance(value, bool)}
         return bool(kinds[name])
-    if name in ("NotRegistry", "NotRange"):
-        return isinstance(value, Registry if name == "NotRegistry" else Range)
+    if name in KINDS:
+        return isinstance(value, KINDS[name])
     if name == "BadRoots":
         return isinstance(value, dict) and all(is_kit(kit) and isinstance(one, Range) for kit, one in value.items())
     if name in ("BadVersion", "NoVersion"):
@@ -262,7 +376,9 @@ def is_right(error, value, function):
     return told in {
         "BadText": ["'1.2.3'", "'none'", "'*'"], "BadSet": ["{}"], "BadClause": ["()"], "BadDemands": ["[]", "()"],
         "BadNumber": ["0", "1", "3", str(10 ** 99)], "BadLine": ["((), ())", "((1, 0, 0), (2, 0, 0))"],
-        "BadWay": ["[]", "()"], "BadLot": ["()"], "BadBounds": ["{}"], "BadPrices": ["(1, 0)"]}.get(name, [])
+        "BadTrials": ["[]", "()"], "BadCulprits": ["[]", "()"], "BadLog": ["[]", "()"], "BadTheory": ["()"],
+        "BadPins": ["{}", "{'zz': (1, 0, 0)}"] if function.__name__ == "merged_pins" else ["{}"], "BadLayout": ["{}"],
+        "BadIndex": ["0", "1"], "BadWorked": ["True", "False"], "BadWay": ["[]", "()"], "BadLot": ["()"], "BadBounds": ["{}"], "BadPrices": ["(1, 0)"]}.get(name, [])
 
 
 class Interface(Case):
@@ -298,15 +414,20 @@ class Interface(Case):
 
     def test_classes(self):
         for owner, names in METHODS.items():
-            made = Range if owner == "Range" else Registry
-            self.assertTrue(names <= set(vars(made)), owner)
-            self.assertEqual(made.__module__, "kitwright.ranges" if made is Range else "kitwright.registries")
-        self.assertEqual(list(inspect.signature(Range).parameters), ["stretches"])
+            self.assertLessEqual(names, set(vars(CLASSES[owner])), owner)
+            self.assertEqual(CLASSES[owner].__module__, "kitwright." + HOMES[owner])
+        for call, told in TAKEN:
+            ahead = [] if isinstance(call, type) else ["self"]
+            self.assertEqual(list(inspect.signature(call).parameters), ahead + told, call)
         self.assertEqual(inspect.signature(Range).parameters["stretches"].default, ())
-        self.assertEqual(list(inspect.signature(Registry).parameters), ["kits"])
-        for name, told in [("versions", ["kit"]), ("manifest", ["kit", "version"]),
-                           ("published", ["kit", "version", "manifest"]), ("withdrawn", ["kit", "version"])]:
-            self.assertEqual(list(inspect.signature(getattr(Registry, name)).parameters), ["self", *told])
+
+    def test_objects_are_equal_to_no_other_kind_and_not_iterated_over(self):
+        made = [LOW, Registry(APP), Lock({}, {}), Project(Registry(APP), ["app", "lib"]), Desk()]
+        for place, one in enumerate(made):
+            self.assertRaises(TypeError, iter, one)
+            for value in any_values() + made[:place] + made[place + 1:]:
+                if type(value) is not type(one):
+                    self.assertFalse(one == value or value == one or not one != value, (one, value))
 
 
 class AllParameters(Case):

@@ -27,7 +27,8 @@ NamedTuple TypedDict TYPE_CHECKING abstractmethod""".split()
 DOUBLE = """__init__ __eq__ __repr__ __str__ __len__ __enter__ __exit__ __call__ __iter__ __lt__ __le__ __gt__ __ge__ __ne__
 __add__ __sub__ __mul__ __and__ __or__ __xor__ __invert__ __contains__ __rand__ __ror__ __rsub__ __bool__""".split()
 STATEMENTS = (ast.Assign, ast.AugAssign, ast.If, ast.While, ast.For, ast.Return, ast.Break, ast.Continue, ast.Pass,
-              ast.Raise, ast.Assert, ast.Delete, ast.Try, ast.Expr, ast.FunctionDef, ast.ClassDef, ast.ImportFrom)
+              ast.Raise, ast.Assert, ast.Delete, ast.Try, ast.With, ast.Expr, ast.FunctionDef, ast.ClassDef,
+              ast.ImportFrom)
 NO_EXPRESSIONS = (ast.GeneratorExp, ast.Await, ast.Yield, ast.YieldFrom, ast.NamedExpr, ast.Global, ast.Nonlocal)
 TAKES_LIST = ("any", "all", "min", "max", "sum", "sorted")
 
@@ -64,6 +65,11 @@ def own_methods(tree):
     """The names of the methods of classes."""
     return {part.name for node in ast.walk(tree) if isinstance(node, ast.ClassDef) for part in node.body
             if isinstance(part, ast.FunctionDef)}
+
+
+def passed_functions(tree):
+    """The names of the parameters that stand for functions."""
+    return {node.arg for node in ast.walk(tree) if isinstance(node, ast.arg) and node.arg == "work"}
 
 
 class Language(unittest.TestCase):
@@ -150,7 +156,10 @@ class Language(unittest.TestCase):
                     self.assertIsInstance(node.value, ast.Constant)
                 elif isinstance(node, ast.Assign):
                     self.assertEqual(len(node.targets), 1, path)
-                    self.assertIsInstance(ast.literal_eval(node.value), (int, str, tuple), path)
+                    told = ast.literal_eval(node.value)
+                    self.assertIsInstance(told, (int, str, tuple, dict), path)
+                    if isinstance(told, dict):
+                        self.assertTrue(all(isinstance(one, (int, str, tuple)) for one in told.values()), path)
                     names.append(node.targets[0].id)
                 else:
                     self.assertIsInstance(node, (ast.ImportFrom, ast.FunctionDef, ast.ClassDef), path)
@@ -178,8 +187,10 @@ class Language(unittest.TestCase):
                 if isinstance(node, ast.ClassDef):
                     self.assertFalse(node.decorator_list or node.keywords, (path, node.name))
                 if isinstance(node, ast.Try):
-                    self.assertTrue(all(isinstance(one.type, ast.Name) and one.type.id.startswith(("Bad", "No"))
+                    self.assertTrue(all(isinstance(one.type, ast.Name) and one.type.id.startswith(("Bad", "No", "KitError"))
                                         for one in node.handlers), (path, node.lineno))
+                if isinstance(node, ast.With):
+                    self.assertTrue(all(isinstance(one.context_expr, ast.Name) for one in node.items), (path, node.lineno))
                 if isinstance(node, ast.Raise) and node.exc is not None:
                     self.assertIsInstance(node.exc, ast.Call, (path, node.lineno))
                 if isinstance(node, ast.Lambda):
@@ -197,7 +208,7 @@ class Language(unittest.TestCase):
                 keywords = {word.arg for word in node.keywords}
                 if isinstance(node.func, ast.Name):
                     name = node.func.id
-                    self.assertTrue(name in own or name in BUILTINS, where + (name,))
+                    self.assertTrue(name in own | passed_functions(tree) or name in BUILTINS, where + (name,))
                     if name in TAKES_LIST:
                         self.assertNotIsInstance(node.args[0], ast.GeneratorExp, where)
                         self.assertFalse(any(isinstance(one, ast.Starred) for one in node.args), where)
@@ -271,7 +282,26 @@ class Language(unittest.TestCase):
                     (stored if isinstance(node.ctx, ast.Store) else read).add(node.attr)
         self.assertFalse(stored & methods)
         self.assertFalse(stored & set(METHODS))
-        self.assertLessEqual(read, stored | methods | set(METHODS))
+        self.assertLessEqual(read, stored | methods | set(METHODS) | {"__class__", "__name__"})
+
+    def test_names_of_classes(self):
+        for path, tree in trees():
+            whole = {id(node.value) for node in ast.walk(tree) if isinstance(node, ast.Attribute) and node.attr == "__name__"}
+            told = {id(node) for node in ast.walk(tree) if isinstance(node, ast.Attribute) and node.attr == "__class__"}
+            self.assertEqual(whole, told, path)
+            for node in ast.walk(tree):
+                if id(node) in told:
+                    self.assertIsInstance(node.value, (ast.Name, ast.Attribute), path)
+
+    def test_exits(self):
+        rows = (ast.Pass, ast.Return, ast.Assign, ast.If, ast.Expr)
+        for path, tree in trees():
+            for node in ast.walk(tree):
+                if isinstance(node, ast.FunctionDef) and node.name == "__exit__":
+                    for one in ast.walk(node):
+                        if isinstance(one, ast.stmt) and one is not node:
+                            self.assertIsInstance(one, rows, path)
+                        self.assertNotIsInstance(one, (ast.Subscript, ast.Call), path)
 
     def test_strings(self):
         for path, tree in trees():
