@@ -5,14 +5,13 @@ import unittest
 
 from kitwright.errors import BadFit, BadLayout, BadPath, BadWeb, NoKit, TooMany
 from kitwright.layouts import copies, finds, is_layout, lifted, lifts, misfit, nested, settled
-from kitwright.ranges import Range
 from kitwright.registries import Registry
 from kitwright.webs import web_for, web_of
 from kitwright.sets import installs
-from tests.samples import ALL, EMPTY, HIGH, V1, V2, V3, Case, any_values, some_kits, some_roots
+from tests.samples import ALL, EMPTY, HIGH, V1, V2, V3, Case, any_values
 from tests.test_webs import HAND, HAND_WEB, LEAN_WEB, all_webs, web_cases, wrong_forms
 from tests.webdraws import (
-    KITS, plain_copies, plain_finds, plain_lift, plain_lifts, plain_misfit, plain_nested, some_layout, version_at, webs)
+    KITS, plain_copies, plain_finds, plain_lift, plain_lifts, plain_misfit, plain_nested, some_layout, webs)
 
 NESTED = {"e": (V1, {"a": (V1, {"c": (V2, {})}), "c": (V1, {})})}
 

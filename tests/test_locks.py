@@ -7,12 +7,11 @@ import unittest
 
 from kitwright.errors import BadLot, BadPins, BadRoots, BadSet, NotLock, NotRegistry, NotSound
 from kitwright.locks import Lock, leaves_with, lock_faults, lock_of, lost_pins, wanted_by
-from kitwright.ranges import Range
 from kitwright.registries import Registry, renamed
 from kitwright.sets import installs
 from tests.samples import (
-    ALL, APP, EMPTY, HIGH, LOW, NONE, V1, V2, V3, Case, any_values, has, kits_dict, plain_installs, plain_sets, some_kits,
-    some_manifest, some_ranges, some_roots, some_version, spoil, strict)
+    ALL, APP, EMPTY, HIGH, LOW, NONE, V1, V2, V3, Case, any_values, has, kits_dict, plain_installs, plain_sets,
+    some_manifest, some_ranges, some_version, spoil, strict)
 from tests.test_webs import web_cases, web_kits
 
 

@@ -13,7 +13,7 @@ from kitwright.registries import Registry, renamed
 from kitwright.sets import installs
 from tests.samples import (
     ALL, APP, EMPTY, HIGH, LOW, NONE, V1, V2, V3, Case, any_values, has, plain_reached, plain_sound, some_kits, some_manifest,
-    some_range, some_ranges, some_version, tense_kits)
+    some_range, some_ranges, tense_kits)
 
 NINE = (9, 9, 9)
 # Versions at, ahead of and behind all ends of the ranges that are drawn.
