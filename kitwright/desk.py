@@ -62,7 +62,8 @@ def quarrels_text(project, kit, ranged):
     roots = project.roots
     kits = list(roots)
     lots = quarrels(project.registry, demands_of(roots) + [("want", kit, ranged)])
-    rows = [[kits[index] for index in lot[:-1]] for lot in lots if lot[-1] == len(kits)]
+    # The held set meets all roots, so each quarrel has the want, as its last index.
+    rows = [[kits[index] for index in lot[:-1]] for lot in lots]
     return listed([" ".join(row) if row else "alone" for row in rows], "; ")
 
 

@@ -4,7 +4,7 @@ from kitwright.errors import BadText
 from kitwright.ranges import is_kit
 from kitwright.rangetexts import read_range, read_version
 
-# What stands behind the first word of a line; a range goes, and kits go, to the end of the line.
+# What stands behind the first word of a line; the last of it goes to the end of the line.
 FORMS = {
     "kit": ("kit", "version"), "wants": ("kit", "version", "kit", "range"),
     "bars": ("kit", "version", "kit", "range"), "after": ("kit", "version", "kit"), "open": ("kits",),
@@ -37,9 +37,8 @@ def read_line(line):
     if words[0] not in FORMS:
         raise BadText(0)
     kinds = FORMS[words[0]]
-    if kinds and kinds[-1] in ("kits", "range"):
-        # The last kind takes all words that are left, so that there are no more texts than kinds.
-        words = words[:len(kinds)] + [" ".join(words[len(kinds):])]
-    if len(words) != len(kinds) + 1:
+    # The last kind takes all words that are left.
+    texts = words[1:len(kinds)] + [" ".join(words[len(kinds):])] if kinds else words[1:]
+    if len(texts) != len(kinds):
         raise BadText(len(words))
-    return [words[0]] + [read_part(kind, text) for kind, text in zip(kinds, words[1:])]
+    return [words[0]] + [read_part(kind, text) for kind, text in zip(kinds, texts)]

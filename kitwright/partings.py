@@ -40,11 +40,9 @@ class Partings:
         return self.depths[lot]
 
     def depth_behind(self, lot, within):
-        """The least depth of a plan for a lot that begins with a set that has a part of it."""
+        """The least depth of a plan for a lot that begins with a set that has a part of it; more for all or nothing."""
         return 1 + max(self.depth(within), self.depth(lot & ~within))
 
     def best(self, lot):
         """What a set that begins a plan with the least depth for a lot that is parted has of all suspects."""
-        return [
-            within for within in self.sets
-            if lot & within not in (0, lot) and self.depth_behind(lot, lot & within) == self.depth(lot)][0]
+        return [within for within in self.sets if self.depth_behind(lot, lot & within) == self.depth(lot)][0]

@@ -100,9 +100,7 @@ def floor_for(registry, roots, trials):
 def is_upheld(partings, numbers, lot):
     """Whether some suspects are parted, and each parting leaves a part with a number less by at most 1."""
     parts = partings.parts(lot)
-    if numbers[lot] == 1 or not parts:
-        return len(parts) > 0
-    return all([
+    return len(parts) > 0 and all([
         max(numbers.get(within, 0), numbers.get(lot & ~within, 0)) >= numbers[lot] - 1 for within in parts])
 
 

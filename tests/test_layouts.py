@@ -153,6 +153,8 @@ class Fitting(Case):
             self.same(self.answers_anew(misfit, web, layout), wanted)
             turned = {kit: (version, dict(reversed(folder.items()))) for kit, (version, folder) in reversed(layout.items())}
             self.same(misfit(web=web, layout=turned), wanted)
+            links = {node: dict(reversed(web[1][node].items())) for node in reversed(web[1])}
+            self.same(misfit((dict(reversed(web[0].items())), links), layout), wanted)
             if wanted is None:
                 seen["fits"] += 1
                 continue

@@ -154,6 +154,21 @@ class Deeds(ProjectCase):
         project.want("lib", LOW)
         self.same([project.held, project.roots], [{"lib": V1}, {"lib": LOW}])
 
+    def test_roots_without_which_a_kit_can_go(self):
+        free = Registry({"x": {V1: ({"b": ALL}, {}, ())}, "b": {V1: EMPTY}, "c": {V1: EMPTY}})
+        project = Project(free, ["x", "b", "c"])
+        project.want("x", ALL)
+        project.want("c", ALL)
+        self.same([project.without("b"), project.without("c"), project.without("x")], [("x",), ("c",), ("x",)])
+        project.want("b", ALL)
+        self.same([project.without("b"), list(project.roots)], [(), ["b", "c", "x"]])
+        # Each of two roots holds a kit together with the other one: the one wants it in a range, the other one bars what else is.
+        both = Registry({"y": {V1: ({"d": ALL}, {}, ()), V2: ({}, {"a": ALL}, ())}, "a": {V1: EMPTY}, "d": {V1: EMPTY}})
+        project = Project(both, ["y", "a", "d"])
+        project.want("y", ALL)
+        project.want("a", ALL)
+        self.same([project.held, project.without("d")], [{"a": V1, "d": V1, "y": V1}, ("a", "y")])
+
     def test_kits_of_several_versions_and_no_root(self):
         project = Project(Registry(APP), ["app", "lib"])
         project.step("lib", V2)

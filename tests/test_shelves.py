@@ -313,6 +313,13 @@ class Fewest(Case):
                 self.assertIs(is_copies_paper(web, [value]), False)
                 self.assertIs(is_copies_paper(web, [(value, [], [])]), False)
 
+    def test_true_is_not_one(self):
+        (top, one, other), true = copies_paper(NONE_FITS)[0], (True, 0, 0)
+        self.assertIs(is_copies_paper(NONE_FITS, [(top, one, other)]), True)
+        self.assertIs(is_copies_paper(NONE_FITS, [({"a": true}, one, other)]), False)
+        self.assertIs(is_copies_paper(NONE_FITS, [(top, [("a", true), *one[1:]], other)]), False)
+        self.assertIs(is_top(NONE_FITS, {"a": true}), False)
+
     def test_without_roots(self):
         self.same(fewest_copies(({}, {})), (0, {}))
         self.same(copies_paper(({}, {})), None)

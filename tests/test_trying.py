@@ -85,6 +85,9 @@ def near_plans(rng, plan, sound):
                 ("try", {}, plan, plan), ("these", list(plan[1])), list(plan), ("these",), ("those", plan[1])]
     _, chosen, works, fails = plan
     found = [("try", dict(other), works, fails) for other in rng.sample(sound, min(4, len(sound)))]
+    found += [("try", {**chosen, kit: version}, works, fails) for kit in "ab" for version in (V1, V2)]
+    # A set that parts nothing: all suspects are on one side of it, and none on the other one.
+    found += [("try", dict(other), *pair) for other in sound[:3] for pair in [(plan, ("these", ())), (("these", ()), plan)]]
     found += [("try", chosen, fails, works), works, fails, ("these", (A2,)), ("try", chosen, works), list(plan),
               ("try", list(chosen.items()), works, fails), ("tries", chosen, works, fails), plan + (1,), ("try", None, works, fails)]
     found += [("try", chosen, other, fails) for other in near_plans(rng, works, sound)[:6]]
@@ -211,6 +214,9 @@ class Plans(Case):
         self.same(plan_for(Registry(HAND), {"b": LOW}, HAND_TRIALS), ("these", (A2, A2B1)))
         self.assertIs(is_plan_for(Registry(HAND), {"b": LOW}, HAND_TRIALS, ("these", (A2, (("a", (2, 0, 0)), ("b", TRUE))))), False)
         self.assertIs(is_plan_for(Registry(HAND), {"b": LOW}, HAND_TRIALS, ("try", {"a": V2}, one, both)), False)
+        for pair in [(plan, ("these", ())), (("these", ()), plan)]:
+            for chosen in ({}, {"a": V2, "b": V1}):
+                self.assertIs(is_plan_for(**told, value=("try", chosen, *pair)), False)
         self.same(floor_for(**told), {(A2, A2B1): 1})
         self.assertIs(is_floor(**told, value={(A2, A2B1): 1}), True)
         self.same(floor_for(Registry(HAND), {"b": LOW}, HAND_TRIALS), {})
@@ -247,6 +253,7 @@ class Floors(Case):
                 less = {other: floor[other] for other in floor if other != key}
                 near = [less] + [{**floor, key: number} for number in (1, floor[key] - 1, floor[key] + 1, 10 ** 99)]
                 near += [{**floor, key[1:]: 1}, {**floor, key[:2]: 2}, {**floor, names: floor[names] + 1}]
+                near += [{**floor, key[:1]: 1}, {**floor, key[-1:]: 2}, {key[:1]: 2}, {key[:1]: 1}]
                 for value in near:
                     right = all(number > 0 for number in value.values()) and plain_is_floor(names, sound, value)
                     self.assertIs(is_floor(*args, value), right, value)
