@@ -1,10 +1,9 @@
 """Logs of projects: deeds with the sets held behind them, judged, replayed and shortened."""
 
-from kitwright.checks import check_index, check_ranked, is_set_of
+from kitwright.checks import check_index, is_set_of
 from kitwright.deeds import do_deed, is_deed
 from kitwright.errors import BadLog, KitError, NotProject
 from kitwright.projects import Project
-from kitwright.registries import check_registry
 from kitwright.values import is_list, is_tuple_of
 
 
@@ -48,8 +47,6 @@ def wrong_at(project, log):
 
 def first_wrong(registry, ranked, log):
     """The index of the first item of any value that is wrong in a log, None if there is none."""
-    check_registry(registry)
-    check_ranked(registry, ranked)
     return wrong_at(Project(registry, ranked), log)
 
 

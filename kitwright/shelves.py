@@ -38,7 +38,7 @@ def ends_from(links, top, start):
     waiting = [start]
     at = 0
     while at < len(waiting):
-        for node in list(links[waiting[at]].items()):
+        for node in sorted(links[waiting[at]].items()):
             if node not in ahead:
                 ahead[node] = waiting[at]
                 if not stands_on(top, node):

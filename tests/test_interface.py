@@ -381,6 +381,15 @@ def is_right(error, value, function):
         "BadIndex": ["0", "1"], "BadWorked": ["True", "False"], "BadWay": ["[]", "()"], "BadLot": ["()"], "BadBounds": ["{}"], "BadPrices": ["(1, 0)"]}.get(name, [])
 
 
+def turned(value):
+    """A value in which the keys of all dicts stand the other way about."""
+    if isinstance(value, dict):
+        return {key: turned(value[key]) for key in reversed(value)}
+    if type(value) in (list, tuple):
+        return type(value)(turned(item) for item in value)
+    return value
+
+
 class Interface(Case):
     def test_modules(self):
         defined = [node for node in ast.parse(inspect.getsource(kitwright)).body
@@ -471,8 +480,9 @@ class AllParameters(Case):
     def test_orders_of_keys(self):
         for _, function, _ in rows():
             good = good_values(function)
-            turned = {name: dict(reversed(value.items())) for name, value in good.items() if isinstance(value, dict)}
-            self.assertEqual(strict(function(**{**good, **turned})), strict(function(**good)), function)
+            found = function(**{name: turned(value) for name, value in good.items()})
+            self.assertEqual(strict(found), strict(function(**good)), function)
+            self.rising(found)
 
     def test_ranked(self):
         registry = Registry(APP)

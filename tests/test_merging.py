@@ -138,6 +138,8 @@ class Ranges(Case):
         def up(low, high):
             return Range([((low, 0, 0), (high, 0, 0))])
         self.same(merged_range(base=up(1, 5), left=up(1, 3), right=up(2, 6)), Range([((2, 0, 0), (3, 0, 0)), ((5, 0, 0), (6, 0, 0))]))
+        for wrong in [(3, 5, 6), ({}, {}, {}), (True, False, True), (ALL, 5, 6), (3, ALL, 6), (3, 5, ALL)]:
+            self.refuses(NotRange, merged_range, *wrong)
         for value in any_values():
             if not isinstance(value, Range):
                 for wrong in [(value, ALL, ALL), (ALL, value, ALL), (ALL, ALL, value)]:

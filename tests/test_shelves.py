@@ -132,6 +132,9 @@ class Quarrels(Case):
                 self.assertEqual([type(found), type(found[0]), type(found[1])], [tuple, list, list])
                 seen["long" if least > 5 else "short"] += 1
                 told = {(tuple(one), tuple(other)) for one, other in wanted}
+                links = {node: dict(reversed(web[1][node].items())) for node in reversed(web[1])}
+                turned = (dict(reversed(web[0].items())), links)
+                self.same(quarrel(turned, dict(reversed(top.items()))), found)
                 for one, other in rng.sample(wanted, min(len(wanted), 2)):
                     self.assertIs(is_quarrel(web, top, (one, other)), True)
                     self.assertIs(is_quarrel(web, top, (tuple(one), other)), True)
@@ -162,6 +165,14 @@ class Quarrels(Case):
         self.assertIs(is_quarrel(HAND_WEB, {"e": V1}, (one, [("e", V1), ("a", V1), ("c", V2)])), True)
         # a stands on top, so that no chain goes on through it.
         self.assertIs(is_quarrel(HAND_WEB, top, (one, [("e", V1), ("a", V1), ("c", V2)])), False)
+
+    def test_chains_that_begin_at_no_node_of_the_top(self):
+        web = ({"x": V1}, {("x", V1): {"e": V1}, ("e", V1): {"a": V1, "c": V1}, ("a", V1): {"c": V2}, ("c", V1): {}, ("c", V2): {}})
+        one, other = [("e", V1), ("c", V1)], [("e", V1), ("a", V1), ("c", V2)]
+        self.assertIs(is_quarrel(web, {"x": V1}, ([("x", V1)] + one, [("x", V1)] + other)), True)
+        self.assertIs(is_quarrel(web, {"x": V1}, (one, other)), False)
+        self.assertIs(is_quarrel(web, {"x": V1, "e": V1}, (one, other)), True)
+        self.assertIs(is_quarrel(web, {"x": V1, "e": V1}, ([("x", V1)] + one, [("x", V1)] + other)), False)
 
     def test_least_of_two_nodes(self):
         web = ({"x": V1, "y": V1}, {("x", V1): {"a": V1, "c": V1}, ("a", V1): {"b": V1}, ("b", V1): {"c": V2}, ("c", V1): {},

@@ -274,7 +274,8 @@ class Floors(Case):
             self.assertIs(is_floor(registry, {}, HAND_TRIALS, {(A2, A2B1): value}), type(value) is int and value == 1)
         self.assertIs(is_floor(registry, {}, HAND_TRIALS, {((("a", TRUE),), A2B1): 1}), False)
         self.assertIs(is_floor(registry, {}, HAND_TRIALS, {(A2, (("a", V2), ("b", TRUE))): 1}), False)
-        self.assertIs(is_floor(registry, {}, HAND_TRIALS, {((("b", V2),), A2): 1}), False)
+        for key in [((("b", V2),), A2), (A2, (("b", V2),)), (A2, A2B1, (("b", V2),)), ((("a", V1),), A2, A2B1)]:
+            self.assertIs(is_floor(registry, {}, HAND_TRIALS, {key: 1}), False)
 
     def test_order_of_errors(self):
         registry = Registry(HAND)
